@@ -1,0 +1,1 @@
+"""Openlimit: limits that are left open."""

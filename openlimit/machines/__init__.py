@@ -1,0 +1,1 @@
+"""Machines that count, their runs and their needs."""

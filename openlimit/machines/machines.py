@@ -1,0 +1,172 @@
+"""Machines: what they are, how they are made, and simple changes."""
+
+from openlimit.errors import InvalidMachine, InvalidNumber, InvalidOperation, TooLarge
+from openlimit.kinds import is_ascending, is_between, is_letter, ordered
+
+MAX_STATES = 8
+MAX_STEPS = 60
+MAX_COST = 3
+MAX_LETTERS = 4
+
+
+def is_alphabet(value):
+    """Return whether the value is a string of one to four letters, ascending."""
+    if not isinstance(value, str) or not 1 <= len(value) <= MAX_LETTERS:
+        return False
+    return all([is_letter(sign) for sign in value]) and is_ascending(value)
+
+
+def is_step(alphabet, size, value):
+    """Return whether the value is a step between states below the size, with a letter of the alphabet."""
+    if not isinstance(value, tuple) or len(value) != 5:
+        return False
+    state, letter, restart, cost, goal = value
+    if not is_letter(letter) or letter not in alphabet:
+        return False
+    if not is_between(restart, 0, 1) or not is_between(cost, 0, MAX_COST):
+        return False
+    return is_between(state, 0, size - 1) and is_between(goal, 0, size - 1)
+
+
+def are_states(size, value):
+    """Return whether the value is a tuple of states below the size, in any order and perhaps repeated."""
+    return isinstance(value, tuple) and all([is_between(state, 0, size - 1) for state in value])
+
+
+def are_steps(alphabet, size, value):
+    """Return whether the value is a tuple of steps, in any order and perhaps repeated."""
+    return isinstance(value, tuple) and all([is_step(alphabet, size, step) for step in value])
+
+
+def are_parts(alphabet, size, starts, finals, steps):
+    """Return whether these are the parts of a machine, but for the order and the number of the steps."""
+    if not is_alphabet(alphabet) or not is_between(size, 1, MAX_STATES):
+        return False
+    return are_states(size, starts) and are_states(size, finals) and are_steps(alphabet, size, steps)
+
+
+def is_machine(value):
+    """Return whether the value is a machine."""
+    if not isinstance(value, tuple) or len(value) != 5:
+        return False
+    alphabet, size, starts, finals, steps = value
+    if not are_parts(alphabet, size, starts, finals, steps) or len(steps) > MAX_STEPS:
+        return False
+    return is_ascending(starts) and is_ascending(finals) and is_ascending(steps)
+
+
+def make_machine(alphabet, size, *steps, starts=(0,), finals=()):
+    """Return the machine with these parts."""
+    return machine_from(alphabet, size, steps, starts, finals)
+
+
+def machine_from(alphabet, size, steps, starts, finals):
+    """Return the machine with these parts; the steps are a tuple."""
+    if not are_parts(alphabet, size, starts, finals, steps):
+        raise InvalidMachine("there is no machine with these parts")
+    kept = ordered(steps)
+    if len(kept) > MAX_STEPS:
+        raise InvalidMachine("a machine has at most 60 steps")
+    return (alphabet, size, ordered(starts), ordered(finals), kept)
+
+
+def check_machine(machine):
+    """Raise InvalidMachine if this is not a machine."""
+    if not is_machine(machine):
+        raise InvalidMachine("this is not a machine")
+
+
+def check_state(machine, state):
+    """Raise InvalidNumber if this is not a state of the machine."""
+    if not is_between(state, 0, machine[1] - 1):
+        raise InvalidNumber(state)
+
+
+def steps_by_letter(machine):
+    """Return the dict from each letter to the list of its steps."""
+    return {letter: [step for step in machine[4] if step[1] == letter] for letter in machine[0]}
+
+
+def steps_from(machine, state):
+    """Yield the pairs (index, step) of the steps that begin in the state, in order."""
+    check_machine(machine)
+    check_state(machine, state)
+    for index, step in enumerate(machine[4]):
+        if step[0] == state:
+            yield (index, step)
+
+
+def is_meter(value):
+    """Return whether the value is a machine in which no step restarts."""
+    return is_machine(value) and all([step[2] == 0 for step in value[4]])
+
+
+def is_plain(value):
+    """Return whether the value is a machine in which all costs are 0."""
+    return is_machine(value) and all([step[3] == 0 for step in value[4]])
+
+
+def with_step(machine, step):
+    """Return the machine with one more step; the same machine if it has the step."""
+    check_machine(machine)
+    alphabet, size, starts, finals, steps = machine
+    if not is_step(alphabet, size, step):
+        raise InvalidOperation("this is not a step with the states and letters of the machine")
+    if step in steps:
+        return machine
+    if len(steps) == MAX_STEPS:
+        raise TooLarge(MAX_STEPS)
+    return (alphabet, size, starts, finals, ordered((*steps, step)))
+
+
+def without_step(machine, index):
+    """Return the machine without the step with this index."""
+    check_machine(machine)
+    alphabet, size, starts, finals, steps = machine
+    if not is_between(index, 0, len(steps) - 1):
+        raise InvalidNumber(index)
+    return (alphabet, size, starts, finals, steps[:index] + steps[index + 1:])
+
+
+def reached(states, arrows):
+    """Return the ascending list of all states to which the arrows (from, to) lead, also these themselves."""
+    found = {state: True for state in states}
+    # The shortest way to a state passes through each state once, so one round for each state is enough.
+    for _ in range(MAX_STATES):
+        for source, goal in arrows:
+            if source in found:
+                found[goal] = True
+    return sorted(found)
+
+
+def useful_states(machine):
+    """Return the ascending list of the states through which accepted runs pass."""
+    steps = machine[4]
+    ahead = reached(machine[2], [(step[0], step[4]) for step in steps])
+    behind = reached(machine[3], [(step[4], step[0]) for step in steps])
+    return [state for state in ahead if state in behind]
+
+
+def trimmed(machine):
+    """Return the machine of the useful states, numbered anew in the same order."""
+    check_machine(machine)
+    alphabet, _, starts, finals, steps = machine
+    useful = useful_states(machine)
+    if not useful:
+        return (alphabet, 1, (), (), ())
+    places = {state: place for place, state in enumerate(useful)}
+    kept = [step for step in steps if step[0] in places and step[4] in places]
+    return (
+        alphabet,
+        len(useful),
+        tuple([places[state] for state in starts if state in places]),
+        tuple([places[state] for state in finals if state in places]),
+        tuple([(places[step[0]], step[1], step[2], step[3], places[step[4]]) for step in kept]),
+    )
+
+
+def plain_of(machine):
+    """Return the machine in which all restarts and costs are 0."""
+    check_machine(machine)
+    alphabet, size, starts, finals, steps = machine
+    return (alphabet, size, starts, finals, ordered([(step[0], step[1], 0, 0, step[4]) for step in steps]))

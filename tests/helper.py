@@ -1,0 +1,119 @@
+"""Machines, wrong values and plain counting that the tests share."""
+
+import random
+
+from openlimit.machines.machines import make_machine, machine_from
+
+BLOCK = make_machine("ab", 1, (0, "a", 0, 1, 0), (0, "b", 1, 0, 0), finals=(0,))
+TOTAL = make_machine("ab", 1, (0, "a", 0, 1, 0), (0, "b", 0, 0, 0), finals=(0,))
+MOST = make_machine("ab", 1, (0, "a", 0, 0, 0), (0, "b", 0, 1, 0), finals=(0,))
+LESS = make_machine(
+    "ab", 2, (0, "a", 0, 1, 0), (0, "b", 0, 0, 0), (1, "a", 0, 0, 1), (1, "b", 0, 1, 1),
+    starts=(0, 1), finals=(0, 1),
+)
+
+
+def nested(make, depth=10):
+    value = 0
+    for _ in range(depth):
+        value = make(value)
+    return value
+
+
+# Values that may stand in no place of a machine, a run, a word or a number.
+WRONG = [
+    True, False, -1, -(10 ** 39), 10 ** 39, "\n", "a\nb", "A", "%", [], [0], ["a"], {}, {"a": 0}, {0: ()},
+    nested(lambda value: [value]), nested(lambda value: (value,)), nested(lambda value: {0: value}),
+    ((), [], {}), (None,), (True,), ([0],),
+]
+NOTHING = [None]
+
+
+def replaced(value, other):
+    """Yield the tuple with one thing in it, at any depth, replaced by the other one."""
+    for place, part in enumerate(value):
+        yield value[:place] + (other,) + value[place + 1:]
+        if isinstance(part, tuple):
+            for inner in replaced(part, other):
+                yield value[:place] + (inner,) + value[place + 1:]
+
+
+def listed(value):
+    """Yield the value with one of its tuples, at any depth or itself, turned into a list."""
+    yield list(value)
+    for place, part in enumerate(value):
+        if isinstance(part, tuple):
+            for inner in listed(part):
+                yield value[:place] + (inner,) + value[place + 1:]
+
+
+def spoiled(value):
+    """Yield many values that look like this tuple, and are wrong."""
+    yield from listed(value)
+    for wrong in WRONG + NOTHING:
+        yield wrong
+        yield from replaced(value, wrong)
+    yield value + (0,)
+    yield value[:-1]
+
+
+def words_to(alphabet, length):
+    """Return all words of at most so many letters, by their length and then ascending."""
+    layer, words = [""], [""]
+    for _ in range(length):
+        layer = [word + letter for word in layer for letter in alphabet]
+        words += layer
+    return words
+
+
+def runs_on(machine, word):
+    """Return all runs on the word, each with the tuple of its counts."""
+    runs = [(state, (), state, (0,)) for state in range(machine[1])]
+    for letter in word:
+        longer = []
+        for state, indices, here, counts in runs:
+            for index, (begin, sign, restart, cost, end) in enumerate(machine[4]):
+                if begin == here and sign == letter:
+                    count = (0 if restart else counts[-1]) + cost
+                    longer.append((state, indices + (index,), end, counts + (count,)))
+        runs = longer
+    return [((state, indices), end, counts) for state, indices, end, counts in runs]
+
+
+def need_by_runs(machine, word):
+    return min(
+        (max(counts) for run, end, counts in runs_on(machine, word) if run[0] in machine[2] and end in machine[3]),
+        default=None,
+    )
+
+
+def row_by_runs(machine, cap, word):
+    row = [None] * machine[1]
+    for run, end, counts in runs_on(machine, word):
+        if run[0] in machine[2] and max(counts) <= cap and (row[end] is None or counts[-1] < row[end]):
+            row[end] = counts[-1]
+    return tuple(row)
+
+
+def some_machine(seed, letters="ab", most_states=4, most_steps=10):
+    """Return a machine that depends on the seed alone."""
+    draw = random.Random(seed)
+    size = draw.randint(1, most_states)
+    steps = tuple(
+        (draw.randrange(size), draw.choice(letters), draw.randrange(2), draw.randrange(4), draw.randrange(size))
+        for _ in range(draw.randint(0, most_steps))
+    )
+    starts = tuple(draw.randrange(size) for _ in range(draw.randrange(3)))
+    finals = tuple(draw.randrange(size) for _ in range(draw.randrange(3)))
+    return machine_from(letters, size, steps, starts, finals)
+
+
+def full_machine(letters="abcd", seed=0, many=60):
+    """Return a machine of eight states, all of them starts and finals, with so many steps."""
+    draw = random.Random(seed)
+    steps = set()
+    while len(steps) < many:
+        steps.add(
+            (draw.randrange(8), draw.choice(letters), draw.randrange(2), draw.randrange(4), draw.randrange(8))
+        )
+    return machine_from(letters, 8, tuple(steps), tuple(range(8)), tuple(range(8)))

@@ -1,0 +1,98 @@
+"""The rules for the form of the package that can be told from its files one by one."""
+
+import ast
+import builtins
+import pathlib
+import unittest
+import warnings
+
+ROOT = pathlib.Path(__file__).resolve().parent.parent / "openlimit"
+BUILTINS = set("""
+    len range enumerate zip min max sum abs sorted reversed int str bool bytes list tuple dict set frozenset isinstance
+    ord repr any all divmod pow getattr hasattr setattr iter next map type super property staticmethod classmethod
+    Exception ValueError TypeError KeyError IndexError LookupError ZeroDivisionError ArithmeticError OverflowError
+    RuntimeError NotImplementedError AttributeError StopIteration NotImplemented
+""".split())
+METHODS = set("""
+    append clear copy count endswith extend find get index insert isalnum isalpha isdigit islower isspace isupper items
+    join keys ljust lower lstrip partition pop remove replace reverse rfind rjust rpartition rsplit rstrip setdefault
+    split splitlines startswith strip update upper values zfill bit_length sort add discard
+""".split())
+LIBRARY = ("heapq", "math", "itertools", "collections")
+FORBIDDEN = (
+    ast.AsyncFor, ast.AsyncFunctionDef, ast.AsyncWith, ast.Await, ast.Div, ast.Import, ast.MatMult, ast.TryStar,
+)
+BARRED = set("register mro elements open input law version_info with_traceback add_note".split())
+
+
+def sources():
+    """Return a dict from the paths of the package's files to their texts."""
+    return {path: path.read_text(encoding="utf-8") for path in sorted(ROOT.rglob("*.py"))}
+
+
+def nodes_of(text, kinds):
+    return [node for node in ast.walk(ast.parse(text)) if isinstance(node, kinds)]
+
+
+def bound_names(text):
+    """Return all names that the file gives a meaning."""
+    names = {node.id for node in nodes_of(text, ast.Name) if not isinstance(node.ctx, ast.Load)}
+    names |= {node.arg for node in nodes_of(text, ast.arg)}
+    names |= {node.name for node in nodes_of(text, (ast.FunctionDef, ast.ClassDef))}
+    names |= {node.asname or node.name for node in nodes_of(text, ast.alias)}
+    return names
+
+
+class FormTests(unittest.TestCase):
+    def test_only_python_files(self):
+        for path in ROOT.rglob("*"):
+            if "__pycache__" not in path.parts:
+                self.assertTrue(path.suffix == ".py" if path.is_file() else (path / "__init__.py").is_file(), path)
+
+    def test_sizes_and_characters(self):
+        for path, text in sources().items():
+            self.assertTrue(all(sign == "\n" or " " <= sign <= "~" for sign in text), path)
+            self.assertLessEqual(len(text.split("\n")), 399, path)
+            self.assertLessEqual(max(len(line) for line in text.split("\n")), 120, path)
+            for node in nodes_of(text, ast.FunctionDef):
+                self.assertLessEqual(node.end_lineno - node.lineno + 1, 40, (path, node.name))
+
+    def test_no_warnings(self):
+        with warnings.catch_warnings():
+            warnings.simplefilter("error")
+            for path, text in sources().items():
+                compile(text, str(path), "exec")
+
+    def test_imports(self):
+        for path, text in sources().items():
+            for node in nodes_of(text, ast.ImportFrom):
+                self.assertEqual(node.level, 0, path)
+                self.assertIn(node.module.split(".")[0], ("openlimit", "__future__") + LIBRARY, path)
+                self.assertNotIn("*", [name.name for name in node.names], path)
+
+    def test_statements_and_values(self):
+        for path, text in sources().items():
+            self.assertEqual(nodes_of(text, FORBIDDEN), [], path)
+            for node in nodes_of(text, ast.Constant):
+                self.assertNotIsInstance(node.value, (float, complex), path)
+            top = (ast.Expr, ast.ImportFrom, ast.FunctionDef, ast.ClassDef, ast.Assign)
+            for node in ast.parse(text).body:
+                self.assertIsInstance(node, top, path)
+
+    def test_names(self):
+        for path, text in sources().items():
+            bound = bound_names(text)
+            # A doctest that runs before leaves the name _ among the builtins.
+            self.assertEqual(bound & set(dir(builtins)) - {"_"}, set(), path)
+            self.assertEqual(bound & BARRED, set(), path)
+            read = {node.id for node in nodes_of(text, ast.Name)}
+            self.assertEqual(read - bound - BUILTINS, set(), path)
+
+    def test_methods_of_builtin_values(self):
+        own = set()
+        for text in sources().values():
+            own |= {node.name for node in nodes_of(text, ast.FunctionDef)}
+        for path, text in sources().items():
+            for node in nodes_of(text, ast.Call):
+                if isinstance(node.func, ast.Attribute):
+                    self.assertIn(node.func.attr, METHODS | own, path)
