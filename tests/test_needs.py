@@ -4,7 +4,7 @@ import time
 import unittest
 
 from openlimit import errors
-from openlimit.machines import needs
+from openlimit.machines import needs, slacks
 from openlimit.machines.machines import machine_from, make_machine, steps_from
 from openlimit.machines.needs import (
     best_run, counts_on, first_row, is_run, need, need_of_run, needs_to, row_behind, row_of,
@@ -30,9 +30,29 @@ def seconds(call):
     return time.process_time() - begin
 
 
+def least_cap_by_rows(machine, word):
+    """Return the least number under which a row has an entry at a final, or None."""
+    for cap in range(3 * len(word) + 1):
+        row = {state: 0 for state in machine[2]}
+        for letter in word:
+            after = {}
+            for state, sign, restart, cost, goal in machine[4]:
+                if sign == letter and state in row:
+                    count = (0 if restart else row[state]) + cost
+                    if count <= min(cap, after.get(goal, cap)):
+                        after[goal] = count
+            row = after
+        if any(state in row for state in machine[3]):
+            return cap
+    return None
+
+
 class ConstantTests(unittest.TestCase):
     def test_constants(self):
         self.assertEqual((needs.MAX_WORD, needs.MAX_CAP), (200, 30))
+
+    def test_the_short_fields(self):
+        self.assertEqual(slacks.SHORT, slacks.fields_of(16))
 
 
 class RunTests(unittest.TestCase):
@@ -161,6 +181,18 @@ class NeedTests(unittest.TestCase):
         dear = make_machine("a", 1, (0, "a", 0, 3, 0), finals=(0,))
         self.check_best(dear, "a" * 200, 600)
         self.check_best(make_machine("a", 1, (0, "a", 1, 3, 0), finals=(0,)), "a" * 200, 3)
+
+    def test_needs_around_sixteen(self):
+        # Small needs are found in one go, greater ones one cap after another; both ways must agree where they meet.
+        for many in range(12, 20):
+            self.check_best(BLOCK, "a" * many + "b" + "a" * 3, many)
+            self.check_best(LESS, "a" * many + "b" * many + "a", many)
+        for seed in range(60):
+            machine = some_machine(seed, most_steps=14)
+            for word in ("ab" * 9, "a" * 7 + "b" * 7, "aab" * 6, "abb" * 11):
+                greatest = max(counts_on(machine, best_run(machine, word) or (0, ())))
+                self.check_best(machine, word, least_cap_by_rows(machine, word))
+                self.assertEqual(need(machine, word) or 0, greatest)
 
     def test_errors(self):
         for machine in [*spoiled(LESS), None, "ab"]:

@@ -1,48 +1,61 @@
 """Machines: what they are, how they are made, and simple changes."""
 
 from openlimit.errors import InvalidMachine, InvalidNumber, InvalidOperation, TooLarge
-from openlimit.kinds import is_ascending, is_between, is_letter, ordered
+from openlimit.kinds import is_between, ordered
 
 MAX_STATES = 8
 MAX_STEPS = 60
 MAX_COST = 3
 MAX_LETTERS = 4
+LETTERS = "abcdefghijklmnopqrstuvwxyz"
 
 
 def is_alphabet(value):
     """Return whether the value is a string of one to four letters, ascending."""
     if not isinstance(value, str) or not 1 <= len(value) <= MAX_LETTERS:
         return False
-    return all([is_letter(sign) for sign in value]) and is_ascending(value)
+    # Letters that follow one another need no closer look.
+    if value in LETTERS:
+        return True
+    before = ""
+    for sign in value:
+        if not "a" <= sign <= "z" or not before < sign:
+            return False
+        before = sign
+    return True
 
 
-def is_step(alphabet, size, value):
-    """Return whether the value is a step between states below the size, with a letter of the alphabet."""
-    if not isinstance(value, tuple) or len(value) != 5:
+def are_states(size, value, ascending):
+    """Return whether the value is a tuple of states below the size; perhaps only an ascending one counts."""
+    if not isinstance(value, tuple):
         return False
-    state, letter, restart, cost, goal = value
-    if not is_letter(letter) or letter not in alphabet:
+    before = -1
+    for state in value:
+        if type(state) != int or not 0 <= state < size or (ascending and before >= state):
+            return False
+        before = state
+    return True
+
+
+def are_steps(alphabet, size, value, ascending):
+    """Return whether the value is a tuple of steps; perhaps only an ascending one counts."""
+    if not isinstance(value, tuple):
         return False
-    if not is_between(restart, 0, 1) or not is_between(cost, 0, MAX_COST):
-        return False
-    return is_between(state, 0, size - 1) and is_between(goal, 0, size - 1)
-
-
-def are_states(size, value):
-    """Return whether the value is a tuple of states below the size, in any order and perhaps repeated."""
-    return isinstance(value, tuple) and all([is_between(state, 0, size - 1) for state in value])
-
-
-def are_steps(alphabet, size, value):
-    """Return whether the value is a tuple of steps, in any order and perhaps repeated."""
-    return isinstance(value, tuple) and all([is_step(alphabet, size, step) for step in value])
-
-
-def are_parts(alphabet, size, starts, finals, steps):
-    """Return whether these are the parts of a machine, but for the order and the number of the steps."""
-    if not is_alphabet(alphabet) or not is_between(size, 1, MAX_STATES):
-        return False
-    return are_states(size, starts) and are_states(size, finals) and are_steps(alphabet, size, steps)
+    letters = list(alphabet)
+    before = ()
+    # Nearly every call begins with this loop, so no function is called in it.
+    for step in value:
+        if not isinstance(step, tuple) or len(step) != 5:
+            return False
+        state, letter, restart, cost, goal = step
+        if not (
+            type(state) == int and type(restart) == int and type(cost) == int and type(goal) == int
+            and 0 <= state < size and 0 <= restart <= 1 and 0 <= cost <= MAX_COST and 0 <= goal < size
+            and letter in letters and (before < step or not ascending)
+        ):
+            return False
+        before = step
+    return True
 
 
 def is_machine(value):
@@ -50,9 +63,20 @@ def is_machine(value):
     if not isinstance(value, tuple) or len(value) != 5:
         return False
     alphabet, size, starts, finals, steps = value
-    if not are_parts(alphabet, size, starts, finals, steps) or len(steps) > MAX_STEPS:
+    if not is_alphabet(alphabet) or type(size) != int or not 1 <= size <= MAX_STATES:
         return False
-    return is_ascending(starts) and is_ascending(finals) and is_ascending(steps)
+    if not are_states(size, starts, True) or not are_states(size, finals, True):
+        return False
+    return are_steps(alphabet, size, steps, True) and len(steps) <= MAX_STEPS
+
+
+def are_parts(alphabet, size, starts, finals, steps):
+    """Return whether these are the parts of a machine, but for the order and the number of the steps."""
+    if not is_alphabet(alphabet) or type(size) != int or not 1 <= size <= MAX_STATES:
+        return False
+    if not are_states(size, starts, False) or not are_states(size, finals, False):
+        return False
+    return are_steps(alphabet, size, steps, False)
 
 
 def make_machine(alphabet, size, *steps, starts=(0,), finals=()):
@@ -84,7 +108,10 @@ def check_state(machine, state):
 
 def steps_by_letter(machine):
     """Return the dict from each letter to the list of its steps."""
-    return {letter: [step for step in machine[4] if step[1] == letter] for letter in machine[0]}
+    found = {letter: [] for letter in machine[0]}
+    for step in machine[4]:
+        found[step[1]].append(step)
+    return found
 
 
 def steps_from(machine, state):
@@ -110,7 +137,7 @@ def with_step(machine, step):
     """Return the machine with one more step; the same machine if it has the step."""
     check_machine(machine)
     alphabet, size, starts, finals, steps = machine
-    if not is_step(alphabet, size, step):
+    if not are_steps(alphabet, size, (step,), False):
         raise InvalidOperation("this is not a step with the states and letters of the machine")
     if step in steps:
         return machine
@@ -129,14 +156,14 @@ def without_step(machine, index):
 
 
 def reached(states, arrows):
-    """Return the ascending list of all states to which the arrows (from, to) lead, also these themselves."""
-    found = {state: True for state in states}
-    # The shortest way to a state passes through each state once, so one round for each state is enough.
-    for _ in range(MAX_STATES):
-        for source, goal in arrows:
-            if source in found:
-                found[goal] = True
-    return sorted(found)
+    """Return the list of all states to which the arrows (from, to) lead, also these themselves."""
+    found = list(states)
+    many = 0
+    while many < len(found):
+        source = found[many]
+        found.extend(ordered([goal for begin, goal in arrows if begin == source and goal not in found]))
+        many += 1
+    return found
 
 
 def useful_states(machine):
@@ -144,7 +171,7 @@ def useful_states(machine):
     steps = machine[4]
     ahead = reached(machine[2], [(step[0], step[4]) for step in steps])
     behind = reached(machine[3], [(step[4], step[0]) for step in steps])
-    return [state for state in ahead if state in behind]
+    return sorted([state for state in ahead if state in behind])
 
 
 def trimmed(machine):

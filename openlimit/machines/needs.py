@@ -1,9 +1,9 @@
 """Runs, the needs of words, and rows."""
 
 from openlimit.errors import InvalidNumber, InvalidRow, InvalidRun, InvalidWord
-from openlimit.kinds import is_between, is_letter
+from openlimit.kinds import is_between
 from openlimit.machines.machines import MAX_COST, check_machine, steps_by_letter
-from openlimit.machines.slacks import Slacks
+from openlimit.machines.slacks import SHORT, fields_of, first_slacks, least_cap, slacks_behind
 
 MAX_WORD = 200
 MAX_CAP = 30
@@ -12,26 +12,26 @@ MAX_SHORT = 8
 
 def is_word(alphabet, value):
     """Return whether the value is a word of the alphabet that may be passed."""
-    if not isinstance(value, str) or len(value) > MAX_WORD:
-        return False
-    return all([sign in alphabet for sign in value])
+    # Of a word of the alphabet nothing is left when its letters are stripped.
+    return isinstance(value, str) and len(value) <= MAX_WORD and value.strip(alphabet) == ""
 
 
 def check_word(machine, word):
     """Raise InvalidWord if this is not a word of the machine's alphabet."""
-    if not is_word(machine[0], word):
+    # Of a word of the alphabet nothing is left when its letters are stripped.
+    if not isinstance(word, str) or len(word) > MAX_WORD or word.strip(machine[0]) != "":
         raise InvalidWord("this is not a word of the alphabet")
 
 
 def check_letter(machine, letter):
     """Raise InvalidWord if this is not a letter of the machine's alphabet."""
-    if not is_letter(letter) or letter not in machine[0]:
+    if letter not in list(machine[0]):
         raise InvalidWord("this is not a letter of the alphabet")
 
 
 def check_cap(cap):
     """Raise InvalidNumber if this is not a cap."""
-    if not is_between(cap, 0, MAX_CAP):
+    if type(cap) != int or not 0 <= cap <= MAX_CAP:
         raise InvalidNumber(cap)
 
 
@@ -39,7 +39,10 @@ def is_row(size, cap, value):
     """Return whether the value has the form of a row for the cap."""
     if not isinstance(value, tuple) or len(value) != size:
         return False
-    return all([entry is None or is_between(entry, 0, cap) for entry in value])
+    for entry in value:
+        if entry is not None and (type(entry) != int or not 0 <= entry <= cap):
+            return False
+    return True
 
 
 def check_row(machine, cap, row):
@@ -48,28 +51,18 @@ def check_row(machine, cap, row):
         raise InvalidRow("this is not a row of the machine for the cap")
 
 
-def has_run_form(machine, value):
-    """Return whether the value is a state and a tuple of at most 200 indices of steps."""
+def is_some_run(machine, value):
+    """Return whether the value is a run of the machine on some word of at most 200 letters."""
     if not isinstance(value, tuple) or len(value) != 2:
         return False
-    state, indices = value
-    if not is_between(state, 0, machine[1] - 1):
-        return False
-    if not isinstance(indices, tuple) or len(indices) > MAX_WORD:
-        return False
-    return all([is_between(index, 0, len(machine[4]) - 1) for index in indices])
-
-
-def is_some_run(machine, value):
-    """Return whether the value is a run of the machine on some word."""
-    if not has_run_form(machine, value):
-        return False
     here, indices = value
+    if type(here) != int or not 0 <= here < machine[1] or not isinstance(indices, tuple) or len(indices) > MAX_WORD:
+        return False
+    steps = machine[4]
     for index in indices:
-        step = machine[4][index]
-        if step[0] != here:
+        if type(index) != int or not 0 <= index < len(steps) or steps[index][0] != here:
             return False
-        here = step[4]
+        here = steps[index][4]
     return True
 
 
@@ -83,23 +76,19 @@ def is_run(machine, word, value):
     """Return whether the value is a run on the word."""
     check_machine(machine)
     check_word(machine, word)
-    return is_some_run(machine, value) and [machine[4][index][1] for index in value[1]] == list(word)
-
-
-def count_behind(count, step):
-    """Return the count behind the step."""
-    if step[2] == 1:
-        return step[3]
-    return count + step[3]
+    return is_some_run(machine, value) and "".join([machine[4][index][1] for index in value[1]]) == word
 
 
 def counts_on(machine, run):
     """Return the tuple of the counts of the run."""
     check_machine(machine)
     check_run(machine, run)
+    count = 0
     counts = [0]
     for index in run[1]:
-        counts.append(count_behind(counts[-1], machine[4][index]))
+        _, _, restart, cost, _ = machine[4][index]
+        count = cost if restart else count + cost
+        counts.append(count)
     return tuple(counts)
 
 
@@ -109,47 +98,54 @@ def need_of_run(machine, run):
 
 
 def start_row(machine):
-    """Return the row of the empty word."""
-    return tuple([0 if state in machine[2] else None for state in range(machine[1])])
+    """Return the row of the empty word, as a list."""
+    row = [None] * machine[1]
+    for state in machine[2]:
+        row[state] = 0
+    return row
 
 
-def row_after(steps, cap, row):
-    """Return the row behind one more letter with these steps."""
-    found = [None] * len(row)
-    for step in steps:
-        before = row[step[0]]
-        if before is not None:
-            count = count_behind(before, step)
-            known = found[step[4]]
-            if count <= cap and (known is None or count < known):
-                found[step[4]] = count
-    return tuple(found)
-
-
-def rows_on(machine, cap, word):
-    """Return the list of the rows of all beginnings of the word; the cap may be any number."""
-    steps = steps_by_letter(machine)
-    rows = [start_row(machine)]
+def rows_behind(moves, cap, row, word):
+    """Return the list of the row and the rows behind each letter, as lists; the cap may be any number."""
+    size = len(row)
+    rows = [row]
     for letter in word:
-        rows.append(row_after(steps[letter], cap, rows[-1]))
+        found = [None] * size
+        for state, _, restart, cost, goal in moves[letter]:
+            count = row[state]
+            if count is not None:
+                count = cost if restart else count + cost
+                known = found[goal]
+                if count <= cap and (known is None or count < known):
+                    found[goal] = count
+        row = found
+        rows.append(row)
     return rows
 
 
-def ends_in(machine, row):
-    """Return the list of the finals to which the row has a run."""
-    return [state for state in machine[3] if row[state] is not None]
+def final_in(machine, row):
+    """Return the first final to which the row has a run, or None."""
+    for state in machine[3]:
+        if row[state] is not None:
+            return state
+    return None
 
 
-def least_need(machine, word):
-    """Return the need of the word, or None."""
+def fits_in(machine, moves, cap, word):
+    """Return whether the word has a need of at most the cap, which may be any number."""
+    return final_in(machine, rows_behind(moves, cap, start_row(machine), word)[-1]) is not None
+
+
+def great_need(machine, moves, word):
+    """Return the need of a word that has none below the short width, or None."""
     # No run of the word has a greater count than this.
     most = MAX_COST * len(word)
-    if not ends_in(machine, rows_on(machine, most, word)[-1]):
+    least = SHORT[0]
+    if most < least or not fits_in(machine, moves, most, word):
         return None
-    least = 0
     while least < most:
         middle = (least + most) // 2
-        if ends_in(machine, rows_on(machine, middle, word)[-1]):
+        if fits_in(machine, moves, middle, word):
             most = middle
         else:
             least = middle + 1
@@ -160,40 +156,59 @@ def need(machine, word):
     """Return the need of the word, or None."""
     check_machine(machine)
     check_word(machine, word)
-    return least_need(machine, word)
+    moves = steps_by_letter(machine)
+    found = least_cap(machine, SHORT, slacks_behind(moves, SHORT, first_slacks(machine, SHORT), word)[-1])
+    if found is None:
+        return great_need(machine, moves, word)
+    return found
 
 
-def index_into(machine, row, letter, state, count):
-    """Return the index of a step by which the letter leads from the row to this state and count."""
-    return [
-        index for index, step in enumerate(machine[4])
-        if step[1] == letter and step[4] == state
-        and row[step[0]] is not None and count_behind(row[step[0]], step) == count
-    ][0]
+def slacks_of(row, cap):
+    """Return the list of the slacks of a row under this cap alone."""
+    top = (2 << cap) - 1
+    return [0 if count is None else top >> count for count in row]
+
+
+def run_back(machine, word, slacks, place, cap):
+    """Return an accepted run within the cap, whose field of the slacks of all beginnings stands at this place."""
+    top = (2 << cap) - 1
+    for here in machine[3]:
+        wanted = slacks[-1][here] >> place & top
+        if wanted:
+            break
+    indices = []
+    # Each slack is that of a run within the cap, so the run is found from its end.
+    for letter, before in zip(word[::-1], slacks[-2::-1]):
+        for index, (state, sign, restart, cost, goal) in enumerate(machine[4]):
+            if goal == here and sign == letter:
+                slack = before[state] >> place & top
+                if slack and (top if restart else slack) >> cost == wanted:
+                    indices.append(index)
+                    here, wanted = state, slack
+                    break
+    return (here, tuple(indices[::-1]))
 
 
 def best_run(machine, word):
     """Return an accepted run on the word with its need, or None."""
     check_machine(machine)
     check_word(machine, word)
-    cap = least_need(machine, word)
+    moves = steps_by_letter(machine)
+    slacks = slacks_behind(moves, SHORT, first_slacks(machine, SHORT), word)
+    cap = least_cap(machine, SHORT, slacks[-1])
+    if cap is not None:
+        return run_back(machine, word, slacks, SHORT[0] * cap, cap)
+    cap = great_need(machine, moves, word)
     if cap is None:
         return None
-    # Each entry of a row is the count of a run within the need, so the run is found from its end.
-    rows = rows_on(machine, cap, word)
-    state = ends_in(machine, rows[-1])[0]
-    indices = []
-    for place in reversed(range(len(word))):
-        index = index_into(machine, rows[place], word[place], state, rows[place + 1][state])
-        indices.append(index)
-        state = machine[4][index][0]
-    return (state, tuple(indices[::-1]))
+    rows = rows_behind(moves, cap, start_row(machine), word)
+    return run_back(machine, word, [slacks_of(row, cap) for row in rows], 0, cap)
 
 
 def first_row(machine):
     """Return the row of the empty word."""
     check_machine(machine)
-    return start_row(machine)
+    return tuple(start_row(machine))
 
 
 def row_behind(machine, cap, row, letter):
@@ -202,7 +217,8 @@ def row_behind(machine, cap, row, letter):
     check_cap(cap)
     check_row(machine, cap, row)
     check_letter(machine, letter)
-    return row_after(steps_by_letter(machine)[letter], cap, row)
+    moves = {letter: [step for step in machine[4] if step[1] == letter]}
+    return tuple(rows_behind(moves, cap, row, letter)[-1])
 
 
 def row_of(machine, cap, word):
@@ -210,7 +226,7 @@ def row_of(machine, cap, word):
     check_machine(machine)
     check_cap(cap)
     check_word(machine, word)
-    return rows_on(machine, cap, word)[-1]
+    return tuple(rows_behind(steps_by_letter(machine), cap, start_row(machine), word)[-1])
 
 
 def needs_to(machine, length):
@@ -218,16 +234,18 @@ def needs_to(machine, length):
     check_machine(machine)
     if not is_between(length, 0, MAX_SHORT):
         raise InvalidNumber(length)
-    slacks = Slacks(machine, length)
-    layer = [("", slacks.opening())]
-    if slacks.least_cap(slacks.opening()) is not None:
+    moves = steps_by_letter(machine)
+    # No count of a word with so many letters is as great as the width.
+    fields = fields_of(MAX_COST * length + 1)
+    layer = [("", first_slacks(machine, fields))]
+    if least_cap(machine, fields, layer[0][1]) is not None:
         yield ("", 0)
     for many in range(1, length + 1):
         longer = []
         for word, before in layer:
             for letter in machine[0]:
-                after = slacks.behind(before, letter)
-                found = slacks.least_cap(after)
+                after = slacks_behind(moves, fields, before, letter)[-1]
+                found = least_cap(machine, fields, after)
                 if found is not None:
                     yield (word + letter, found)
                 # A word without a need is kept, too, as longer ones may have one.
