@@ -117,3 +117,49 @@ def full_machine(letters="abcd", seed=0, many=60):
             (draw.randrange(8), draw.choice(letters), draw.randrange(2), draw.randrange(4), draw.randrange(8))
         )
     return machine_from(letters, 8, tuple(steps), tuple(range(8)), tuple(range(8)))
+
+
+GRADES = ("restart", "free", "paid", "dear", "none")
+SERIES = ("free", "paid", "restart", "dear", "none")
+
+
+def best_of(grades):
+    return GRADES[min((GRADES.index(grade) for grade in grades), default=4)]
+
+
+def worst_of(grades):
+    return SERIES[max((SERIES.index(grade) for grade in grades), default=0)]
+
+
+def plain_product(first, second):
+    size = range(len(first))
+    return tuple(
+        tuple(best_of([worst_of([first[i][k], second[k][j]]) for k in size]) for j in size) for i in size
+    )
+
+
+def some_table(draw, size):
+    """Return a table with more or less runs."""
+    kinds = GRADES + ("none",) * draw.choice((0, 2, 8))
+    return tuple(tuple(draw.choice(kinds) for _ in range(size)) for _ in range(size))
+
+
+def fitting_recipes(draw, machines, many):
+    """Return some recipes that fit all the machines, longer and longer ones."""
+    from openlimit.tables.recipes import fits, pump_recipe, then_recipe, word_recipe
+
+    found = [word_recipe(letter) for letter in machines[0][0]]
+    while len(found) < many:
+        recipe = then_recipe(draw.choice(found), draw.choice(found)) if draw.random() < 0.5 else draw.choice(found)
+        if draw.random() < 0.6:
+            for _ in range(6):
+                pumped = pump_recipe(recipe)
+                if fits(pumped, *machines):
+                    recipe = pumped
+                    break
+                recipe = then_recipe(recipe, recipe)
+                if len(recipe) > 60:
+                    break
+        if len(recipe) <= 60:
+            found.append(recipe)
+    return found

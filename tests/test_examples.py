@@ -3,7 +3,8 @@
 import doctest
 import unittest
 
-from openlimit.machines import machines, needs
+from openlimit.machines import machines, needs, readers
+from openlimit.tables import grades, recipes, written
 
 VALUES = '''
 >>> BLOCK = make_machine("ab", 1, (0, "a", 0, 1, 0), (0, "b", 1, 0, 0), finals=(0,))
@@ -33,13 +34,48 @@ NEEDS = '''
 [('', 0), ('a', 1), ('b', 0)]
 '''
 
+READERS = '''
+>>> reader = Reader(BLOCK, "aab")
+>>> [reader.need, reader.take("a", "aa"), reader("a"), reader.back(2), reader[2], list(reader.needs()), str(reader)]
+[2, 3, 4, 2, 2, [0, 1, 2, 2, 2], 'reader at "aaba", need 2']
+>>> strict = LimitedReader(BLOCK, 2, "aab")
+>>> [strict.take("aa"), strict.bound, strict.word]
+[2, 2, 'aabaa']
+>>> strict.take("a")
+Traceback (most recent call last):
+    ...
+openlimit.errors.InvalidOperation: the word cannot be continued within the bound
+'''
+
+TABLES = '''
+>>> [choice("paid", "restart", "none"), sequence("restart", "paid"), sequence("paid", "dear"), choice(), sequence()]
+['restart', 'restart', 'dear', 'none', 'free']
+>>> [table_of(LESS, "a"), value_of(LESS, table_of(LESS, "a")), pumped(table_of(LESS, "a"))]
+[(('paid', 'none'), ('none', 'free')), 'free', (('dear', 'none'), ('none', 'free'))]
+>>> ab = product(pumped(table_of(LESS, "a")), pumped(table_of(LESS, "b")))
+>>> [ab, value_of(LESS, ab), pumped((("paid", "restart"), ("none", "paid")))]
+[(('dear', 'none'), ('none', 'dear')), 'dear', (('dear', 'dear'), ('none', 'dear'))]
+>>> both = then_recipe(pump_recipe(word_recipe("a")), pump_recipe(word_recipe("b")))
+>>> both
+(('letter', 'a'), ('pump', 0), ('letter', 'b'), ('pump', 2), ('then', 1, 3))
+>>> word_recipe("aba")
+(('letter', 'a'), ('letter', 'b'), ('then', 0, 1), ('letter', 'a'), ('then', 2, 3))
+>>> [fits(both, LESS, BLOCK), tables_in(both, LESS, BLOCK), ceiling(both, LESS)]
+[True, ((('dear', 'none'), ('none', 'dear')), (('dear',),)), 4]
+>>> many = (("word", "aab"), ("times", 0, 10 ** 18))
+>>> [length_of(many), price_of(TOTAL, many), row_of_written(BLOCK, 2, many), price_of(LESS, written_of(both, 5, 2))]
+[3000000000000000000, 2000000000000000000, (0,), 18]
+'''
+
 
 class ExampleTests(unittest.TestCase):
     def test_examples(self):
-        text = VALUES + MACHINES + NEEDS
-        names = {**vars(machines), **vars(needs)}
+        text = VALUES + MACHINES + NEEDS + READERS + TABLES
+        names = {}
+        for module in (machines, needs, readers, grades, recipes, written):
+            names.update(vars(module))
         test = doctest.DocTestParser().get_doctest(text, names, "DOC.md", None, 0)
         told = []
         results = doctest.DocTestRunner().run(test, out=told.append)
         self.assertEqual((results.failed, results.attempted), (0, len(test.examples)), "".join(told))
-        self.assertEqual(results.attempted, 12)
+        self.assertEqual(results.attempted, 25)

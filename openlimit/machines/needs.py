@@ -173,7 +173,7 @@ def run_back(machine, word, slacks, place, cap):
     """Return an accepted run within the cap, whose field of the slacks of all beginnings stands at this place."""
     top = (2 << cap) - 1
     for here in machine[3]:
-        wanted = slacks[-1][here] >> place & top
+        wanted = (slacks[-1][here] >> place) & top
         if wanted:
             break
     indices = []
@@ -181,7 +181,7 @@ def run_back(machine, word, slacks, place, cap):
     for letter, before in zip(word[::-1], slacks[-2::-1]):
         for index, (state, sign, restart, cost, goal) in enumerate(machine[4]):
             if goal == here and sign == letter:
-                slack = before[state] >> place & top
+                slack = (before[state] >> place) & top
                 if slack and (top if restart else slack) >> cost == wanted:
                     indices.append(index)
                     here, wanted = state, slack

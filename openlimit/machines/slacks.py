@@ -66,7 +66,7 @@ def slacks_behind(moves, fields, slacks, word):
                 if restart or cost:
                     # What comes down from the field above, and what leads above the cap, does not fit.
                     slack = (slack >> cost) & fits[cost]
-                found[goal] |= slack
+                found[goal] = found[goal] | slack
         slacks = found
         behind.append(slacks)
     return behind
@@ -76,7 +76,7 @@ def least_cap(machine, fields, slacks):
     """Return the least cap below the width under which some run leads to a final, or None."""
     some = 0
     for state in machine[3]:
-        some |= slacks[state]
+        some = some | slacks[state]
     caps = some & fields[2]
     if caps == 0:
         return None

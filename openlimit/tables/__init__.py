@@ -1,0 +1,1 @@
+"""Grades, tables, recipes and written words."""
