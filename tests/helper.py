@@ -163,3 +163,13 @@ def fitting_recipes(draw, machines, many):
         if len(recipe) <= 60:
             found.append(recipe)
     return found
+
+
+def sets_machine(moves, starts, finals=255):
+    """Return a plain machine of eight states; sets of states are written as bits."""
+    steps = tuple(
+        (state, letter, 0, 0, goal)
+        for letter, goals in zip("ab", moves) for state in range(8) for goal in range(8) if goals[state] >> goal & 1
+    )
+    states = [tuple(state for state in range(8) if bits >> state & 1) for bits in (starts, finals)]
+    return machine_from("ab", 8, steps, *states)

@@ -4,7 +4,8 @@ import doctest
 import unittest
 
 from openlimit.machines import machines, needs, readers
-from openlimit.tables import grades, recipes, written
+from openlimit.tables import closures, grades, recipes, written
+from openlimit.verdicts import bounds, rates, verdicts
 
 VALUES = '''
 >>> BLOCK = make_machine("ab", 1, (0, "a", 0, 1, 0), (0, "b", 1, 0, 0), finals=(0,))
@@ -67,15 +68,42 @@ TABLES = '''
 [3000000000000000000, 2000000000000000000, (0,), 18]
 '''
 
+VERDICTS = '''
+>>> [closure(TOTAL), len(closure(LESS)), len(closure(LESS, BLOCK))]
+[(((('dear',),),), ((('free',),),), ((('paid',),),)), 8, 9]
+>>> [verdict(TOTAL, BLOCK)[0], verdict(BLOCK, TOTAL)[0], is_bounded(LESS, MOST), is_bounded(MOST, LESS)]
+['grows', 'closed', True, False]
+>>> [is_verdict(TOTAL, BLOCK, ("grows", pump_recipe(word_recipe("ab")))), is_verdict(LESS, BLOCK, ("grows", both))]
+[True, False]
+>>> none = make_machine("ab", 1, (0, "a", 0, 0, 0), finals=(0,))
+>>> [verdict(none, BLOCK), is_verdict(none, BLOCK, ("never", "ab"))]
+[('never', 'b'), True]
+>>> [rate(BLOCK, TOTAL, 4), rate(LESS, MOST, 2), rate(TOTAL, TOTAL, 3)]
+[4, 2, 3]
+>>> is_bound_paper(LESS, MOST, 0, (0, (((0,), (0, 0)), ((0,), (None, 0)), ((None,), (0, None)), ((None,), (None, None))), None))
+True
+>>> rate(TOTAL, BLOCK, 0)
+Traceback (most recent call last):
+    ...
+openlimit.errors.Unlimited: ('grows', (('letter', 'a'), ('letter', 'b'), ('then', 0, 1), ('pump', 2)))
+>>> [row[:2] for row in rates(BLOCK, TOTAL, until=2)]
+[(0, 0), (1, 1), (2, 2)]
+>>> [are_mates(BLOCK, TOTAL), are_mates(LESS, LESS), chained(3, BLOCK, TOTAL, TOTAL)]
+[False, True, (3, 3, 3)]
+>>> exchange = Exchange(BLOCK, TOTAL)
+>>> [exchange.rate_at(2), exchange("aab"), exchange("bb"), exchange.known, exchange[0], 1 in exchange, str(exchange)]
+[2, 2, 0, {0: 0, 2: 2}, 0, False, 'exchange with 2 known rates']
+'''
+
 
 class ExampleTests(unittest.TestCase):
     def test_examples(self):
-        text = VALUES + MACHINES + NEEDS + READERS + TABLES
+        text = VALUES + MACHINES + NEEDS + READERS + TABLES + VERDICTS
         names = {}
-        for module in (machines, needs, readers, grades, recipes, written):
+        for module in (machines, needs, readers, grades, recipes, written, closures, verdicts, bounds, rates):
             names.update(vars(module))
         test = doctest.DocTestParser().get_doctest(text, names, "DOC.md", None, 0)
         told = []
         results = doctest.DocTestRunner().run(test, out=told.append)
         self.assertEqual((results.failed, results.attempted), (0, len(test.examples)), "".join(told))
-        self.assertEqual(results.attempted, 25)
+        self.assertEqual(results.attempted, 39)

@@ -88,6 +88,26 @@ class FormTests(unittest.TestCase):
             read = {node.id for node in nodes_of(text, ast.Name)}
             self.assertEqual(read - bound - BUILTINS, set(), path)
 
+    def test_imports_and_classes_keep_their_names(self):
+        for path, text in sources().items():
+            kept = {node.asname or node.name for node in nodes_of(text, ast.alias)}
+            kept |= {node.name for node in nodes_of(text, ast.ClassDef)}
+            for function in nodes_of(text, ast.FunctionDef):
+                inner = {node.id for node in ast.walk(function)
+                         if isinstance(node, ast.Name) and not isinstance(node.ctx, ast.Load)}
+                inner |= {node.arg for node in ast.walk(function) if isinstance(node, ast.arg)}
+                self.assertEqual(inner & kept, set(), (path, function.name))
+
+    def test_generators_have_names_of_their_own(self):
+        names, generators = [], set()
+        for text in sources().values():
+            for node in nodes_of(text, ast.FunctionDef):
+                names.append(node.name)
+                if any(isinstance(inner, (ast.Yield, ast.YieldFrom)) for inner in ast.walk(node)):
+                    generators.add(node.name)
+        for name in generators:
+            self.assertEqual(names.count(name), 1, name)
+
     def test_methods_of_builtin_values(self):
         own = set()
         for text in sources().values():

@@ -345,7 +345,7 @@ class GrowthTests(unittest.TestCase):
             draw = random.Random(seed)
             machine = some_machine(seed, most_states=3, most_steps=9)
             if seed % 2:
-                machine = machine[:3] + (tuple(range(machine[1])),) + machine[4:]
+                machine = meter_of(machine[:3] + (tuple(range(machine[1])),) + machine[4:])
             for recipe in fitting_recipes(draw, [machine], 9):
                 value = value_of(machine, tables_in(recipe, machine)[0])
                 pumps = any(row[0] == "pump" for row in recipe)

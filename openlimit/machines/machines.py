@@ -108,7 +108,9 @@ def check_state(machine, state):
 
 def steps_by_letter(machine):
     """Return the dict from each letter to the list of its steps."""
-    found = {letter: [] for letter in machine[0]}
+    found = {}
+    for letter in machine[0]:
+        found[letter] = []
     for step in machine[4]:
         found[step[1]].append(step)
     return found

@@ -1,0 +1,1 @@
+"""Verdicts on two machines, rates and the exchange of limits."""

@@ -1,0 +1,124 @@
+"""Rates at several caps, along chains of machines, and kept ones."""
+
+from openlimit.errors import InvalidMachine, InvalidNumber, InvalidOperation, TooLarge
+from openlimit.kinds import is_between
+from openlimit.machines.machines import check_machine
+from openlimit.machines.needs import MAX_CAP, check_cap, check_word, need
+from openlimit.tables.closures import MOST_TUPLES
+from openlimit.tables.recipes import check_machines
+from openlimit.verdicts.bounds import check_limited, found_paper, rate
+from openlimit.verdicts.verdicts import is_bounded
+
+# Each machine is bounded by itself; the verdict on this one is found at once.
+EMPTY = ("a", 1, (), (), ())
+
+
+def rates(first, second, *, until=30):
+    """Yield for each cap from 0 the triple of the cap, the rate, and a word that needs so much."""
+    check_machines((first, second))
+    check_cap(until)
+    check_limited(first, second, MOST_TUPLES)
+    for cap in range(until + 1):
+        number, _, word = found_paper(first, second, cap)
+        yield (cap, number, word)
+
+
+def are_mates(first, second):
+    """Return whether each of the machines is bounded by the other one."""
+    return is_bounded(first, second) and is_bounded(second, first)
+
+
+def chained(cap, *machines):
+    """Return the cap for the last machine, and for each other one its rate at the number of the next one."""
+    check_cap(cap)
+    if len(machines) < 2:
+        raise InvalidMachine("a chain has at least two machines")
+    for machine in machines:
+        check_machine(machine)
+    check_machines(machines)
+    numbers = [cap]
+    for place in reversed(range(len(machines) - 1)):
+        numbers.append(rate(machines[place], machines[place + 1], numbers[-1]))
+    return tuple(numbers[::-1])
+
+
+class Exchange:
+    """The rates of a machine over another one, which are kept when they have been found."""
+
+    def __init__(self, first, second):
+        check_machines((first, second))
+        check_limited(first, second, MOST_TUPLES)
+        self._first = first
+        self._second = second
+        self._kept = {}
+
+    @property
+    def first(self):
+        """The first machine."""
+        return self._first
+
+    @property
+    def second(self):
+        """The second machine."""
+        return self._second
+
+    @property
+    def known(self):
+        """The dict from all caps whose rates were kept to the rates."""
+        return {cap: self._kept[cap] for cap in sorted(self._kept)}
+
+    def rate_at(self, cap):
+        """Return the rate at the cap, and keep it."""
+        check_cap(cap)
+        if cap not in self._kept:
+            self._kept[cap] = found_paper(self._first, self._second, cap)[0]
+        return self._kept[cap]
+
+    def shown(self, cap):
+        """Return a bound paper for the cap, and keep the rate."""
+        check_cap(cap)
+        paper = found_paper(self._first, self._second, cap)
+        self._kept[cap] = paper[0]
+        return paper
+
+    def then(self, other):
+        """Return the exchange of the first machine and the second machine of the other exchange."""
+        if not isinstance(other, Exchange) or other.first != self._second:
+            raise InvalidOperation("this is not an exchange whose first machine is the second one here")
+        # No verdict is looked for: what is bounded by what is bounded is bounded.
+        found = Exchange(EMPTY, EMPTY)
+        found._first = self._first
+        found._second = other.second
+        return found
+
+    def __call__(self, word):
+        check_word(self._second, word)
+        least = need(self._second, word)
+        if least is None:
+            return None
+        if least > MAX_CAP:
+            raise TooLarge(MAX_CAP)
+        return self.rate_at(least)
+
+    def __getitem__(self, at):
+        if not is_between(at, 0, MAX_CAP) or at not in self._kept:
+            raise InvalidNumber(at)
+        return self._kept[at]
+
+    def __iter__(self):
+        raise TypeError("an exchange cannot be iterated over")
+
+    def __contains__(self, at):
+        return is_between(at, 0, MAX_CAP) and at in self._kept
+
+    def __len__(self):
+        return len(self._kept)
+
+    def __bool__(self):
+        return len(self._kept) > 0
+
+    def __str__(self):
+        return f"exchange with {len(self._kept)} known rates"
+
+    def __eq__(self, other):
+        return isinstance(other, Exchange) and self._first == other._first and self._second == other._second

@@ -1,0 +1,121 @@
+"""Verdicts: papers that show whether a machine is bounded by another one."""
+
+from openlimit.machines.machines import plain_of
+from openlimit.tables.closures import check_most, closed_products, is_closed, tables_from
+from openlimit.tables.packed import DEAR, PAID, packed_of, packed_value
+from openlimit.tables.recipes import check_machines, is_recipe_of, packed_rows
+from openlimit.verdicts.walks import Rows, Walk
+
+
+def accepts(machine, word):
+    """Return whether the machine accepts the word, which may have any length."""
+    rows = Rows(plain_of(machine), 0)
+    return rows.is_accepted(rows.behind_word(word))
+
+
+def first_never(first, second):
+    """Return the first word that the second machine accepts and the first one does not, or None."""
+    return Walk(first[0], Rows(plain_of(first), 0), Rows(plain_of(second), 0)).first_refused()
+
+
+def is_finite(code):
+    """Return whether this is the code of restart, free or paid."""
+    # All better grades have the bits of the worse ones.
+    return (code & PAID) == PAID
+
+
+def shows_growth(first, second, entry):
+    """Return whether the packed tables are dear in the first machine, and not dear or none in the second one."""
+    return packed_value(first, entry[0]) == DEAR and is_finite(packed_value(second, entry[1]))
+
+
+def is_forbidden(first, second, entry):
+    """Return whether the packed tables are dear or none in the first machine, and not so in the second one."""
+    return not is_finite(packed_value(first, entry[0])) and is_finite(packed_value(second, entry[1]))
+
+
+def shortened(rows):
+    """Return the recipe of the rows without those that its last row does not need."""
+    needed = {len(rows) - 1: True}
+    for place in reversed(range(len(rows))):
+        if place in needed and rows[place][0] != "letter":
+            for part in rows[place][1:]:
+                needed[part] = True
+    places = {place: many for many, place in enumerate(sorted(needed))}
+    found = []
+    for place in sorted(needed):
+        row = rows[place]
+        found.append(row if row[0] == "letter" else (row[0], *[places[part] for part in row[1:]]))
+    return tuple(found)
+
+
+def found_verdict(first, second, most):
+    """Return a verdict on two machines that were checked."""
+    word = first_never(first, second)
+    if word is not None:
+        return ("never", word)
+    products = closed_products((first, second), most)
+    entries = products.entries()
+    for place, entry in enumerate(entries):
+        if shows_growth(first, second, entry):
+            return ("grows", shortened(products.rows()[:place + 1]))
+    return ("closed", tuple(sorted([tables_from(entry) for entry in entries])))
+
+
+def verdict(first, second, *, most=300):
+    """Return a verdict, the first never word if there is one."""
+    check_machines((first, second))
+    check_most(most)
+    return found_verdict(first, second, most)
+
+
+def is_bounded(first, second, *, most=300):
+    """Return whether the first machine is bounded by the second one."""
+    check_machines((first, second))
+    check_most(most)
+    return found_verdict(first, second, most)[0] == "closed"
+
+
+def never_word(first, second):
+    """Return the first word that the second machine accepts and the first one does not, or None."""
+    check_machines((first, second))
+    return first_never(first, second)
+
+
+def is_never(first, second, value):
+    """Return whether the value is a word that the second machine accepts and the first one does not."""
+    if not isinstance(value, str) or value.strip(first[0]) != "":
+        return False
+    return accepts(second, value) and not accepts(first, value)
+
+
+def is_growing(first, second, value):
+    """Return whether the value is a recipe that shows growth."""
+    if not is_recipe_of(first[0], value):
+        return False
+    tables = [packed_rows(value, first), packed_rows(value, second)]
+    if tables[0] is None or tables[1] is None:
+        return False
+    return shows_growth(first, second, [rows[-1] for rows in tables])
+
+
+def is_kept_closed(first, second, value):
+    """Return whether the value is a closed tuple of pairs of tables that shows boundedness."""
+    if not is_closed(value, first, second):
+        return False
+    for entry in value:
+        if is_forbidden(first, second, [packed_of(table) for table in entry]):
+            return False
+    return accepts(first, "") or not accepts(second, "")
+
+
+def is_verdict(first, second, value):
+    """Return whether the value is a verdict."""
+    check_machines((first, second))
+    if not isinstance(value, tuple) or len(value) != 2:
+        return False
+    if value[0] == "never":
+        return is_never(first, second, value[1])
+    if value[0] == "grows":
+        return is_growing(first, second, value[1])
+    return value[0] == "closed" and is_kept_closed(first, second, value[1])
