@@ -1,6 +1,7 @@
 """Machines, wrong values and plain counting that the tests share."""
 
 import random
+import time
 
 from openlimit.machines.machines import make_machine, machine_from
 
@@ -173,3 +174,32 @@ def sets_machine(moves, starts, finals=255):
     )
     states = [tuple(state for state in range(8) if bits >> state & 1) for bits in (starts, finals)]
     return machine_from("ab", 8, steps, *states)
+
+
+def seconds(call):
+    """Return how long the call takes."""
+    begin = time.process_time()
+    call()
+    return time.process_time() - begin
+
+
+def least_seconds(call, rounds=7):
+    """Return the least time that the call takes in some rounds."""
+    return min(seconds(call) for _ in range(rounds))
+
+
+def plain_work():
+    """Do what takes about as long as one thousand short calls, whatever machine this is."""
+    found = {}
+    for number in range(10000):
+        state, letter, cost = number & 7, "ab"[number & 1], number & 3
+        row = (state, letter, cost)
+        if type(state) == int and 0 <= state < 8 and row not in found:
+            found[row] = [cost] * 3
+        found[row][cost % 3] = number + cost
+    return found
+
+
+def slowness():
+    """Return how many times slower this machine is now than the one on which the limits of time were set, at least 1."""
+    return max(1, least_seconds(plain_work, 3) / 0.004)

@@ -1,6 +1,5 @@
 """[8.1] to [8.3]: rates and bound papers."""
 
-import time
 import unittest
 
 from openlimit import errors
@@ -9,7 +8,7 @@ from openlimit.machines.needs import first_row, need, row_behind, row_of
 from openlimit.verdicts.bounds import bound_paper, is_bound_paper, rate
 from openlimit.verdicts.verdicts import is_bounded, is_verdict
 from tests.helper import (
-    BLOCK, LESS, MOST, NOTHING, TOTAL, WRONG, full_machine, replaced, some_machine, spoiled, words_to,
+    BLOCK, LESS, MOST, NOTHING, TOTAL, WRONG, full_machine, replaced, seconds, slowness, some_machine, spoiled, words_to,
 )
 from tests.test_verdicts import FREE, NEVER, ONE_MORE, ONLY_A, OTHER
 
@@ -94,13 +93,26 @@ class RateTests(unittest.TestCase):
                     call(THRICE, TOTAL, cap)
                 self.assertEqual(caught.exception.limit, 30)
 
+    def test_thirty_and_thirty_one(self):
+        steps = ((0, "b", 0, 1, 1), (1, "a", 0, 3, 1), (1, "b", 0, 0, 1))
+        first = make_machine("ab", 2, *steps, finals=(1,))
+        second = make_machine("ab", 2, (0, "b", 0, 0, 1), (1, "a", 0, 1, 1), (1, "b", 0, 0, 1), finals=(1,))
+        self.assertEqual(rate(first, second, 9), 28)
+        with self.assertRaises(errors.TooLarge) as caught:
+            rate(first, second, 10)
+        self.assertEqual(caught.exception.limit, 30)
+
     def test_papers_are_in_order(self):
+        for first, second in ((BLOCK, TOTAL), (LESS, MOST)):
+            paper = bound_paper(first, second, 30)
+            self.assertEqual(paper[0], 30)
+            self.assertTrue(is_right_paper(first, second, 30, paper))
+            self.assertIs(is_bound_paper(first, second, 30, paper), True)
         pairs = bound_paper(LESS, MOST, 2)[1]
         self.assertEqual(list(pairs), sorted(pairs, key=order_of))
         self.assertEqual([pairs[0], pairs[-1]], [((0,), (0, 0)), ((None,), (None, None))])
 
     def test_two_thousand_pairs(self):
-        begin = time.process_time()
         paper = bound_paper(EIGHT, COUNTER, 23)
         self.assertEqual([paper[0], len(paper[1]), paper[2]], [0, 2000, None])
         self.assertIs(is_bound_paper(EIGHT, COUNTER, 23, paper), True)
@@ -110,7 +122,8 @@ class RateTests(unittest.TestCase):
                     call(EIGHT, second, cap)
                 self.assertEqual(caught.exception.limit, 2000)
         self.assertEqual(len(bound_paper(EIGHT, COUNTER_AND_START, 22)[1]), 1921)
-        self.assertLess(time.process_time() - begin, 3)
+        self.assertLess(seconds(lambda: bound_paper(EIGHT, COUNTER, 23)), slowness())
+        self.assertLess(seconds(lambda: is_bound_paper(EIGHT, COUNTER, 23, paper)), slowness())
 
     def test_too_many_pairs_for_the_rate_only(self):
         # For M = 0 there are 50 pairs for each count of a, and for M = 1, the rate, 75.

@@ -168,6 +168,8 @@ class ClosedTests(unittest.TestCase):
         for grade in GRADES:
             for value in replaced(whole[:2], grade):
                 self.assertIs(is_closed(tuple(value) + whole[2:], LESS, BLOCK), value == whole[:2])
+        for entry in (whole[0] + whole[0][:1], whole[0][:1], whole[0][::-1]):
+            self.assertIs(is_closed(tuple(sorted((*whole, entry))), LESS, BLOCK), False)
         for value in ((), ((),), (((),),), ((whole[0][0],),), whole + (("a", "b"),), closure(BLOCK, LESS), closure(LESS)):
             self.assertIs(is_closed(value, LESS, BLOCK), False)
 

@@ -1,6 +1,5 @@
 """[0.8], [0.10], [0.11], [2.1]: runs, needs and rows."""
 
-import time
 import unittest
 
 from openlimit import errors
@@ -11,7 +10,7 @@ from openlimit.machines.needs import (
 )
 from tests.helper import (
     BLOCK, LESS, MOST, NOTHING, TOTAL, WRONG, full_machine, listed, need_by_runs, replaced, row_by_runs, runs_on,
-    some_machine, spoiled, words_to,
+    seconds, slowness, some_machine, spoiled, words_to,
 )
 
 # A restart with a cost, and steps that do not all follow one another.
@@ -21,13 +20,6 @@ COSTLY = make_machine(
 )
 SHUT = make_machine("ab", 1, *BLOCK[4])
 WRONG_WORDS = [None, True, 0, -1, 10 ** 39, "c", "aB", "a ", "a\n", "\n", (), ("a",), ["a"], [], {}, "a" * 201, [[[]]]]
-
-
-def seconds(call):
-    """Return how long the call takes."""
-    begin = time.process_time()
-    call()
-    return time.process_time() - begin
 
 
 def least_cap_by_rows(machine, word):
@@ -209,9 +201,9 @@ class NeedTests(unittest.TestCase):
             "a", 8, tuple((i % 8, "a", 0, 1 + i // 24, (i * 5 + i // 8) % 8) for i in range(60)), (0,), (7,)
         )
         for machine in (cheap, meter):
-            self.assertLess(seconds(lambda: need(machine, "a" * 200)), 0.5)
-            self.assertLess(seconds(lambda: best_run(machine, "a" * 200)), 0.5)
-            self.assertLess(seconds(lambda: row_of(machine, 30, "a" * 200)), 0.5)
+            self.assertLess(seconds(lambda: need(machine, "a" * 200)), 0.5 * slowness())
+            self.assertLess(seconds(lambda: best_run(machine, "a" * 200)), 0.5 * slowness())
+            self.assertLess(seconds(lambda: row_of(machine, 30, "a" * 200)), 0.5 * slowness())
         self.check_best(cheap, "a" * 200, need(cheap, "a" * 200))
         self.check_best(meter, "a" * 200, need(meter, "a" * 200))
 
@@ -328,7 +320,7 @@ class NeedsToTests(unittest.TestCase):
 
     def test_read_in_part_and_again(self):
         some = needs_to(full_machine(), 8)
-        self.assertLess(seconds(lambda: next(some)), 0.1)
+        self.assertLess(seconds(lambda: next(some)), 0.1 * slowness())
         self.assertEqual(next(some)[0], "a")
         self.assertEqual(next(needs_to(full_machine(), 8)), ("", 0))
         self.assertEqual(next(some)[0], "b")
@@ -342,7 +334,7 @@ class NeedsToTests(unittest.TestCase):
 
     def test_time_and_needs_of_a_great_machine(self):
         machine = full_machine()
-        self.assertLess(seconds(lambda: list(needs_to(machine, 8))), 1)
+        self.assertLess(seconds(lambda: list(needs_to(machine, 8))), slowness())
         found = list(needs_to(machine, 8))
         for word, least in found[::997]:
             self.assertEqual(need(machine, word), least)

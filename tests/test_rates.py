@@ -149,6 +149,7 @@ class ChainTests(unittest.TestCase):
             self.assertRaises(errors.InvalidMachine, chained, 0, LESS, OTHER, wrong)
         self.assertRaises(errors.InvalidOperation, chained, 0, TOTAL, BLOCK, OTHER)
         self.assertRaises(errors.InvalidOperation, chained, 0, OTHER, BLOCK, BLOCK)
+        self.assertRaises(errors.InvalidOperation, chained, 0, OTHER, TOTAL, BLOCK)
 
     def test_the_last_two_machines_come_first(self):
         for machines, pair in (((TOTAL, BLOCK, ONLY_A), (BLOCK, ONLY_A)), ((TOTAL, BLOCK, TOTAL), (TOTAL, BLOCK))):

@@ -1,14 +1,15 @@
 """[3.1]: readers."""
 
 import random
-import time
 import unittest
 
 from openlimit import errors
 from openlimit.machines.machines import make_machine
 from openlimit.machines.needs import need, row_of
 from openlimit.machines.readers import LimitedReader, Reader
-from tests.helper import BLOCK, LESS, NOTHING, TOTAL, WRONG, full_machine, some_machine, spoiled, words_to
+from tests.helper import (
+    BLOCK, LESS, NOTHING, TOTAL, WRONG, full_machine, seconds, slowness, some_machine, spoiled, words_to,
+)
 
 WRONG_WORDS = [None, True, 0, -1, 10 ** 39, "c", "aB", "a ", "a\n", "\n", (), ("a",), ["a"], [], {}, "a" * 201, [[[]]]]
 SHUT = make_machine("ab", 1, *BLOCK[4])
@@ -255,12 +256,11 @@ class ReaderTests(ReaderCase):
             "a", 8, *[(i, "a", 0, cost, i) for i in range(8) for cost in (1, 2, 3)],
             *[(i, "a", 1, 0, j) for i in range(8) for j in range(i + 1, 8)], finals=(7,)
         )
-        begin = time.process_time()
         for one in (machine, slow):
             reader = Reader(one, "a" * 199)
             reader.take("a")
             self.assertEqual(reader.need, need(one, "a" * 200))
-        self.assertLess(time.process_time() - begin, 1)
+            self.assertLess(seconds(lambda: Reader(one, "a" * 200)), slowness())
 
 
 class LimitedReaderTests(ReaderCase):

@@ -1,33 +1,10 @@
 """Many short words in small machines, asked one after another."""
 
 import random
-import time
 import unittest
 
 from openlimit.machines.needs import best_run, is_run, need, need_of_run, row_behind, row_of
-from tests.helper import some_machine
-
-
-def least_seconds(call, rounds=7):
-    """Return the least time that the call takes in some rounds."""
-    taken = []
-    for _ in range(rounds):
-        begin = time.process_time()
-        call()
-        taken.append(time.process_time() - begin)
-    return min(taken)
-
-
-def plain_work():
-    """Do what takes about as long as one thousand short calls, whatever machine this is."""
-    found = {}
-    for number in range(10000):
-        state, letter, cost = number & 7, "ab"[number & 1], number & 3
-        row = (state, letter, cost)
-        if type(state) == int and 0 <= state < 8 and row not in found:
-            found[row] = [cost] * 3
-        found[row][cost % 3] = number + cost
-    return found
+from tests.helper import least_seconds, plain_work, some_machine
 
 
 class SpeedTests(unittest.TestCase):

@@ -249,6 +249,8 @@ class IsVerdictTests(unittest.TestCase):
         for value in list(spoiled(("closed", pairs)))[::7]:
             self.assertIs(is_verdict(LESS, MOST, ("closed", value)), False)
             self.assertIs(is_verdict(LESS, MOST, value), False)
+        for kind in ("Closed", "", None, 0, "grows", "never", ("closed",)):
+            self.assertIs(is_verdict(LESS, MOST, (kind, pairs)), False)
         # Closed, but with a forbidden pair.
         self.assertIs(is_verdict(MOST, LESS, ("closed", closure(MOST, LESS))), False)
         self.assertIs(is_verdict(ONLY_A, FREE, ("closed", closure(ONLY_A, FREE))), False)

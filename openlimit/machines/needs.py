@@ -18,8 +18,7 @@ def is_word(alphabet, value):
 
 def check_word(machine, word):
     """Raise InvalidWord if this is not a word of the machine's alphabet."""
-    # Of a word of the alphabet nothing is left when its letters are stripped.
-    if not isinstance(word, str) or len(word) > MAX_WORD or word.strip(machine[0]) != "":
+    if not is_word(machine[0], word):
         raise InvalidWord("this is not a word of the alphabet")
 
 

@@ -10,7 +10,6 @@ RESTART = 0x01010101
 FREE = 0x00010101
 PAID = 0x00000101
 DEAR = 0x00000001
-NONE = 0
 CODES = {"restart": 0x01010101, "free": 0x00010101, "paid": 0x00000101, "dear": 0x00000001, "none": 0}
 NAMES = {0x01010101: "restart", 0x00010101: "free", 0x00000101: "paid", 0x00000001: "dear", 0: "none"}
 

@@ -3,7 +3,7 @@
 from openlimit.errors import InvalidMachine, InvalidNumber, InvalidOperation, TooLarge
 from openlimit.kinds import is_between
 from openlimit.machines.machines import check_machine
-from openlimit.machines.needs import MAX_CAP, check_cap, check_word, need
+from openlimit.machines.needs import MAX_CAP, check_cap, need
 from openlimit.tables.closures import MOST_TUPLES
 from openlimit.tables.recipes import check_machines
 from openlimit.verdicts.bounds import check_limited, found_paper, rate
@@ -92,7 +92,6 @@ class Exchange:
         return found
 
     def __call__(self, word):
-        check_word(self._second, word)
         least = need(self._second, word)
         if least is None:
             return None
