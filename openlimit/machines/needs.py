@@ -104,10 +104,9 @@ def start_row(machine):
     return row
 
 
-def rows_behind(moves, cap, row, word):
-    """Return the list of the row and the rows behind each letter, as lists; the cap may be any number."""
+def row_after(moves, cap, row, word):
+    """Return the row behind the letters of the word, as a list; the cap may be any number."""
     size = len(row)
-    rows = [row]
     for letter in word:
         found = [None] * size
         for state, _, restart, cost, goal in moves[letter]:
@@ -118,8 +117,7 @@ def rows_behind(moves, cap, row, word):
                 if count <= cap and (known is None or count < known):
                     found[goal] = count
         row = found
-        rows.append(row)
-    return rows
+    return row
 
 
 def final_in(machine, row):
@@ -132,7 +130,7 @@ def final_in(machine, row):
 
 def fits_in(machine, moves, cap, word):
     """Return whether the word has a need of at most the cap, which may be any number."""
-    return final_in(machine, rows_behind(moves, cap, start_row(machine), word)[-1]) is not None
+    return final_in(machine, row_after(moves, cap, start_row(machine), word)) is not None
 
 
 def great_need(machine, moves, word):
@@ -200,8 +198,12 @@ def best_run(machine, word):
     cap = great_need(machine, moves, word)
     if cap is None:
         return None
-    rows = rows_behind(moves, cap, start_row(machine), word)
-    return run_back(machine, word, [slacks_of(row, cap) for row in rows], 0, cap)
+    row = start_row(machine)
+    slacks = [slacks_of(row, cap)]
+    for letter in word:
+        row = row_after(moves, cap, row, letter)
+        slacks.append(slacks_of(row, cap))
+    return run_back(machine, word, slacks, 0, cap)
 
 
 def first_row(machine):
@@ -217,7 +219,7 @@ def row_behind(machine, cap, row, letter):
     check_row(machine, cap, row)
     check_letter(machine, letter)
     moves = {letter: [step for step in machine[4] if step[1] == letter]}
-    return tuple(rows_behind(moves, cap, row, letter)[-1])
+    return tuple(row_after(moves, cap, row, letter))
 
 
 def row_of(machine, cap, word):
@@ -225,7 +227,7 @@ def row_of(machine, cap, word):
     check_machine(machine)
     check_cap(cap)
     check_word(machine, word)
-    return tuple(rows_behind(steps_by_letter(machine), cap, start_row(machine), word)[-1])
+    return tuple(row_after(steps_by_letter(machine), cap, start_row(machine), word))
 
 
 def needs_to(machine, length):

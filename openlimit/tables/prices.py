@@ -5,7 +5,7 @@ runs on the word lead from it, to the least sums of costs of such runs.
 """
 
 from openlimit.machines.machines import MAX_COST
-from openlimit.machines.needs import rows_behind
+from openlimit.machines.needs import row_after
 
 # A multiple of all numbers from 1 to 8, the lengths of the shortest loops in a machine.
 ROUND = 840
@@ -20,7 +20,7 @@ def costs_behind_word(moves, costs, word):
     """Return the list of the least sums of costs behind the word; moves has the steps of each letter of a meter."""
     # No cap: this is more than any of the sums.
     cap = max([cost for cost in costs if cost is not None], default=0) + MAX_COST * len(word)
-    return rows_behind(moves, cap, costs, word)[-1]
+    return row_after(moves, cap, costs, word)
 
 
 def costs_behind(costs, prices):

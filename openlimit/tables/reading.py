@@ -2,7 +2,7 @@
 
 from openlimit.errors import TooLarge
 from openlimit.machines.machines import steps_by_letter
-from openlimit.machines.needs import rows_behind
+from openlimit.machines.needs import row_after
 
 MAX_PAIRS = 2000
 
@@ -66,7 +66,7 @@ class Reading:
         for letter in word:
             known = self._steps[letter]
             if row not in known:
-                known[row] = tuple(rows_behind(self._moves, self._cap, row, letter)[-1])
+                known[row] = tuple(row_after(self._moves, self._cap, row, letter))
             row = known[row]
         return row
 

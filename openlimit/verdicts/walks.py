@@ -2,7 +2,7 @@
 
 from openlimit.errors import TooLarge
 from openlimit.machines.machines import steps_by_letter
-from openlimit.machines.needs import final_in, rows_behind, start_row
+from openlimit.machines.needs import final_in, row_after, start_row
 
 MAX_PAIRS = 2000
 
@@ -42,7 +42,7 @@ class Rows:
         """Return the list of the numbers of the rows behind each letter, in the order of the alphabet."""
         if self._further[number] is None:
             row = self._found[number]
-            rows = [tuple(rows_behind(self._moves, self._cap, row, letter)[-1]) for letter in self._machine[0]]
+            rows = [tuple(row_after(self._moves, self._cap, row, letter)) for letter in self._machine[0]]
             self._further[number] = [self.number_of(after) for after in rows]
         return self._further[number]
 
