@@ -32,7 +32,7 @@ def count_fields(width, count):
     """Return the integer of a run with this last count, under all caps below the width that allow it."""
     found = 0
     for cap in range(count, width):
-        found |= ((1 << (cap - count + 1)) - 1) << (width * cap)
+        found = found | (((1 << (cap - count + 1)) - 1) << (width * cap))
     return found
 
 

@@ -114,7 +114,7 @@ class Exchange:
         return len(self._kept)
 
     def __bool__(self):
-        return len(self._kept) > 0
+        return bool(self._kept)
 
     def __str__(self):
         return f"exchange with {len(self._kept)} known rates"
