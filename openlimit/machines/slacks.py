@@ -62,8 +62,8 @@ def slacks_behind(moves, fields, slacks, word):
             if slack:
                 if restart:
                     # The lowest bit of a field tells whether there is a run at all, and this is all that counts.
-                    slack = (slack & units) * full
-                if restart or cost:
+                    slack = ((slack & units) * full) & fits[cost]
+                elif cost:
                     # What comes down from the field above, and what leads above the cap, does not fit.
                     slack = (slack >> cost) & fits[cost]
                 found[goal] = found[goal] | slack
