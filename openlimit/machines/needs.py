@@ -166,7 +166,15 @@ def slacks_of(row, cap):
     return [0 if count is None else top >> count for count in row]
 
 
-def run_back(machine, word, slacks, place, cap):
+def indexed_steps(machine):
+    """Return the dict from each letter to the list of its steps, each with its index instead of the letter."""
+    found = {letter: [] for letter in machine[0]}
+    for index, (state, letter, restart, cost, goal) in enumerate(machine[4]):
+        found[letter].append((state, index, restart, cost, goal))
+    return found
+
+
+def run_back(machine, moves, word, slacks, place, cap):
     """Return an accepted run within the cap, whose field of the slacks of all beginnings stands at this place."""
     top = (2 << cap) - 1
     for here in machine[3]:
@@ -176,8 +184,8 @@ def run_back(machine, word, slacks, place, cap):
     indices = []
     # Each slack is that of a run within the cap, so the run is found from its end.
     for letter, before in zip(word[::-1], slacks[-2::-1]):
-        for index, (state, sign, restart, cost, goal) in enumerate(machine[4]):
-            if goal == here and sign == letter:
+        for state, index, restart, cost, goal in moves[letter]:
+            if goal == here:
                 slack = (before[state] >> place) & top
                 if slack and (top if restart else slack) >> cost == wanted:
                     indices.append(index)
@@ -190,11 +198,11 @@ def best_run(machine, word):
     """Return an accepted run on the word with its need, or None."""
     check_machine(machine)
     check_word(machine, word)
-    moves = steps_by_letter(machine)
+    moves = indexed_steps(machine)
     slacks = slacks_behind(moves, SHORT, first_slacks(machine, SHORT), word)
     cap = least_cap(machine, SHORT, slacks[-1])
     if cap is not None:
-        return run_back(machine, word, slacks, SHORT[0] * cap, cap)
+        return run_back(machine, moves, word, slacks, SHORT[0] * cap, cap)
     cap = great_need(machine, moves, word)
     if cap is None:
         return None
@@ -203,7 +211,7 @@ def best_run(machine, word):
     for letter in word:
         row = row_after(moves, cap, row, letter)
         slacks.append(slacks_of(row, cap))
-    return run_back(machine, word, slacks, 0, cap)
+    return run_back(machine, moves, word, slacks, 0, cap)
 
 
 def first_row(machine):
