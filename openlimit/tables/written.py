@@ -144,7 +144,7 @@ def spelled(written):
 
 
 def read_in_order(written):
-    """Return the list of the rows that are read one after another; two rows stand for one that is used only once."""
+    """Return the list of the rows that are read one after another; one that joins two, and is used once, gives way."""
     last = len(written) - 1
     uses = {last: 1}
     for place in needed_rows(written, [last]):
