@@ -163,16 +163,17 @@ def reached(states, arrows):
     many = 0
     while many < len(found):
         source = found[many]
-        found.extend(ordered([goal for begin, goal in arrows if begin == source and goal not in found]))
+        for begin, goal in arrows:
+            if begin == source and goal not in found:
+                found.append(goal)
         many += 1
     return found
 
 
 def useful_states(machine):
     """Return the ascending list of the states through which accepted runs pass."""
-    steps = machine[4]
-    ahead = reached(machine[2], [(step[0], step[4]) for step in steps])
-    behind = reached(machine[3], [(step[4], step[0]) for step in steps])
+    ahead = reached(machine[2], [(step[0], step[4]) for step in machine[4]])
+    behind = reached(machine[3], [(step[4], step[0]) for step in machine[4]])
     return sorted([state for state in ahead if state in behind])
 
 
@@ -183,6 +184,8 @@ def trimmed(machine):
     useful = useful_states(machine)
     if not useful:
         return (alphabet, 1, (), (), ())
+    if len(useful) == machine[1]:
+        return machine
     places = {state: place for place, state in enumerate(useful)}
     kept = [step for step in steps if step[0] in places and step[4] in places]
     return (

@@ -245,7 +245,8 @@ def needs_to(machine, length):
         raise InvalidNumber(length)
     moves = steps_by_letter(machine)
     # No count of a word with so many letters is as great as the width.
-    fields = fields_of(MAX_COST * length + 1)
+    width = MAX_COST * length + 1
+    fields = SHORT if width <= SHORT[0] else fields_of(width)
     layer = [("", first_slacks(machine, fields))]
     if least_cap(machine, fields, layer[0][1]) is not None:
         yield ("", 0)
