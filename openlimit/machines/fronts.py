@@ -25,7 +25,7 @@ def best_pairs(pairs):
 
 def front_behind(steps, front):
     """Return the front behind one more letter with these steps."""
-    found = [[] for _ in front]
+    found = [[] for pairs in front]
     for state, _, restart, cost, goal in steps:
         if restart and front[state]:
             # All runs go on with the same count, so that with the least need is the best one.

@@ -85,8 +85,8 @@ def counts_on(machine, run):
     count = 0
     counts = [0]
     for index in run[1]:
-        _, _, restart, cost, _ = machine[4][index]
-        count = cost if restart else count + cost
+        step = machine[4][index]
+        count = step[3] if step[2] else count + step[3]
         counts.append(count)
     return tuple(counts)
 

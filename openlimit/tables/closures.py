@@ -59,7 +59,7 @@ class Products:
         if entry in self._places:
             return
         self._add(entry, row)
-        self._factors.append((self._places[entry], [{} for _ in entry]))
+        self._factors.append((self._places[entry], [{} for packed in entry]))
         # Each product of factors is found from the left, so it is enough to multiply by factors from the right.
         place = 0
         while place < len(self._entries):
