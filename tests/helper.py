@@ -203,3 +203,74 @@ def plain_work():
 def slowness():
     """Return how many times slower this machine is now than the one on which the limits of time were set, at least 1."""
     return max(1, least_seconds(plain_work, 3) / 0.004)
+
+
+def some_pattern(draw, depth=4, letters="ab", limits=True):
+    """Return a pattern of at most so many levels; with limits it may have some, but none within another one."""
+    from openlimit.patterns.patterns import Either, Empty, Letter, Series, Star, Upto
+
+    if depth == 1 or draw.random() < 0.15:
+        return Letter(draw.choice(letters)) if draw.random() < 0.85 else Empty()
+    kind = draw.choice((Series, Series, Either, Either, Star, Upto if limits else Star))
+    if kind in (Star, Upto):
+        return kind(some_pattern(draw, depth - 1, letters, limits and kind is Star))
+    return kind(*[some_pattern(draw, depth - 1, letters, limits) for _ in range(2)])
+
+
+def some_patterns(seed, many, depth=4, letters="ab"):
+    """Return so many patterns within the bounds."""
+    from openlimit.errors import TooLarge
+
+    draw, found = random.Random(seed), []
+    while len(found) < many:
+        try:
+            found.append(some_pattern(draw, depth, letters))
+        except TooLarge:
+            pass
+    return found
+
+
+def matches_with(pattern, number, text):
+    """Return whether the text matches the pattern with this number, after the words of the document."""
+    known = {}
+
+    def rounds(part, begin, end, left):
+        """Return whether the text between these places is made of at most so many texts of the part that are not empty."""
+        if begin == end:
+            return True
+        return left > 0 and any(
+            match(part, begin, middle) and rounds(part, middle, end, left - 1) for middle in range(begin + 1, end + 1)
+        )
+
+    def look(pattern, begin, end):
+        kind = type(pattern).__name__
+        if kind == "Letter":
+            return text[begin:end] == str(pattern)
+        if kind == "Empty":
+            return begin == end
+        if kind == "Series":
+            first, second = pattern.pieces
+            return any(match(first, begin, at) and match(second, at, end) for at in range(begin, end + 1))
+        if kind == "Either":
+            return any(match(part, begin, end) for part in pattern.pieces)
+        return rounds(pattern.pieces[0], begin, end, end - begin if kind == "Star" else number)
+
+    def match(pattern, begin, end):
+        key = (str(pattern), begin, end)
+        if key not in known:
+            known[key] = look(pattern, begin, end)
+        return known[key]
+
+    return match(pattern, 0, len(text))
+
+
+def need_by_numbers(pattern, text):
+    """Return the least number with which the text matches, found number by number, or None."""
+    for number in range(len(text) + 1):
+        if matches_with(pattern, number, text):
+            return number
+    return None
+
+
+# Values that are no patterns, whatever the others are.
+NO_PATTERNS = WRONG + NOTHING + ["a", "()", ("a", "b"), 0, 1]

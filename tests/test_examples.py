@@ -3,10 +3,15 @@
 import doctest
 import unittest
 
-from openlimit.machines import machines, needs, readers
+from openlimit.machines import machines, needs, operations, readers
+from openlimit.patterns import compiled, patterns
 from openlimit.tables import closures, grades, recipes, written
-from openlimit.verdicts import bounds, rates, verdicts
+from openlimit.verdicts import bounds, pieces, rates, verdicts
 
+MODULES = (
+    machines, needs, readers, grades, recipes, written, closures, verdicts, bounds, rates, patterns, compiled, pieces,
+    operations,
+)
 VALUES = '''
 >>> BLOCK = make_machine("ab", 1, (0, "a", 0, 1, 0), (0, "b", 1, 0, 0), finals=(0,))
 >>> TOTAL = make_machine("ab", 1, (0, "a", 0, 1, 0), (0, "b", 0, 0, 0), finals=(0,))
@@ -95,15 +100,33 @@ openlimit.errors.Unlimited: ('grows', (('letter', 'a'), ('letter', 'b'), ('then'
 [2, 2, 0, {0: 0, 2: 2}, 0, False, 'exchange with 2 known rates']
 '''
 
+PATTERNS = '''
+>>> a, b = Letter("a"), Letter("b")
+>>> p = ~(a.upto() + b) + a.upto()
+>>> [str(p), p("aabaaab"), p("c"), p.at(2, "aabaaab"), len(p), p.places, Pattern.read("((a{n}b)*a{n})") == p]
+['((a{n}b)*a{n})', 3, None, False, 8, 3, True]
+>>> machine_of(a.upto(), "ab")[1:]
+(2, (0,), (0, 1), ((0, 'a', 1, 1, 1), (1, 'a', 0, 1, 1)))
+>>> [pattern_rate((a + a | a).upto(), a.upto(), 5), pattern_verdict(a.upto() + b, ~a + b)[0], pattern_verdict(~a, ~(a.upto() + b))]
+[3, 'grows', ('never', 'b')]
+>>> SHORT = make_machine("a", 3, (0, "a", 0, 0, 1), (1, "a", 0, 0, 2), finals=(1, 2))
+>>> [best_cutting(SHORT, "aaaa"), need(piece_machine(SHORT), "aaa"), power_paper(SHORT)[0], power_paper(plain_of(TOTAL))[1][0]]
+[(2, 4), 2, 'grows', 1]
+>>> [need(either(TOTAL, MOST), "aab"), need(followed(TOTAL, MOST), "aabbb"), need(added(MOST, TOTAL), "bbaab")]
+[1, 2, 2]
+>>> [need(iterated(SHORT), "aaa"), need(renamed(BLOCK, {"a": "a", "b": "a"}), "aaa"), need(scaled(BLOCK, 2), "aab")]
+[0, 0, 4]
+'''
+
 
 class ExampleTests(unittest.TestCase):
     def test_examples(self):
-        text = VALUES + MACHINES + NEEDS + READERS + TABLES + VERDICTS
+        text = VALUES + MACHINES + NEEDS + READERS + TABLES + VERDICTS + PATTERNS
         names = {}
-        for module in (machines, needs, readers, grades, recipes, written, closures, verdicts, bounds, rates):
+        for module in MODULES:
             names.update(vars(module))
         test = doctest.DocTestParser().get_doctest(text, names, "DOC.md", None, 0)
         told = []
         results = doctest.DocTestRunner().run(test, out=told.append)
         self.assertEqual((results.failed, results.attempted), (0, len(test.examples)), "".join(told))
-        self.assertEqual(results.attempted, 39)
+        self.assertEqual(results.attempted, 48)

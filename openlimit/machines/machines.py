@@ -25,6 +25,12 @@ def is_alphabet(value):
     return True
 
 
+def check_alphabet(alphabet):
+    """Raise InvalidMachine if this is not an alphabet."""
+    if not is_alphabet(alphabet):
+        raise InvalidMachine("this is not an alphabet")
+
+
 def are_states(size, value, ascending):
     """Return whether the value is a tuple of states below the size; perhaps only an ascending one counts."""
     if not isinstance(value, tuple):
@@ -98,6 +104,14 @@ def check_machine(machine):
     """Raise InvalidMachine if this is not a machine."""
     if not is_machine(machine):
         raise InvalidMachine("this is not a machine")
+
+
+def check_machines(machines):
+    """Raise an error for the first of these that is not a machine with the alphabet of the first one."""
+    for machine in machines:
+        check_machine(machine)
+        if machine[0] != machines[0][0]:
+            raise InvalidOperation("the machines have different alphabets")
 
 
 def check_state(machine, state):

@@ -149,15 +149,19 @@ def great_need(machine, moves, word):
     return least
 
 
-def need(machine, word):
-    """Return the need of the word, or None."""
-    check_machine(machine)
-    check_word(machine, word)
-    moves = steps_by_letter(machine)
+def need_with(machine, moves, word):
+    """Return the need of the word, or None; moves has the steps of each letter."""
     found = least_cap(machine, SHORT, slacks_behind(moves, SHORT, first_slacks(machine, SHORT), word)[-1])
     if found is None:
         return great_need(machine, moves, word)
     return found
+
+
+def need(machine, word):
+    """Return the need of the word, or None."""
+    check_machine(machine)
+    check_word(machine, word)
+    return need_with(machine, steps_by_letter(machine), word)
 
 
 def slacks_of(row, cap):

@@ -2,10 +2,10 @@
 
 from openlimit.errors import InvalidNumber, TooLarge
 from openlimit.kinds import is_between
+from openlimit.machines.machines import check_machines
 from openlimit.tables.packed import (
     has_table_form, is_packed_idempotent, packed_letter, packed_of, packed_pumped, row_times, table_from,
 )
-from openlimit.tables.recipes import check_machines
 
 MOST_TUPLES = 300
 

@@ -22,7 +22,7 @@ class Reading:
         self._fronts = {}
         self._places = {}
 
-    def read(self, row):
+    def follow(self, row):
         """Return the row behind the whole word, with this row in front of it."""
         whole = (len(self._written) - 1, row)
         self._meet(whole)

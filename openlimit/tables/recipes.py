@@ -1,8 +1,8 @@
 """Recipes: words with pumped parts, and their tables."""
 
-from openlimit.errors import InvalidMachine, InvalidOperation, InvalidRecipe, InvalidWord, TooLarge
+from openlimit.errors import InvalidRecipe, InvalidWord, TooLarge
 from openlimit.kinds import is_between
-from openlimit.machines.machines import LETTERS, MAX_LETTERS, check_machine, is_alphabet
+from openlimit.machines.machines import LETTERS, MAX_LETTERS, check_alphabet, check_machine, check_machines
 from openlimit.machines.needs import MAX_WORD
 from openlimit.tables.packed import (
     is_packed_idempotent, packed_letter, packed_product, packed_pumped, table_from,
@@ -48,12 +48,6 @@ def check_recipe(recipe):
     """Raise InvalidRecipe if this is not a recipe of some alphabet."""
     if not is_recipe_of(LETTERS, recipe) or not are_few_letters(letters_in(recipe)):
         raise InvalidRecipe("this is not a recipe")
-
-
-def check_alphabet(alphabet):
-    """Raise InvalidMachine if this is not an alphabet."""
-    if not is_alphabet(alphabet):
-        raise InvalidMachine("this is not an alphabet")
 
 
 def is_recipe(alphabet, value):
@@ -106,14 +100,6 @@ def pump_recipe(recipe):
     if len(recipe) == MAX_ROWS:
         raise TooLarge(MAX_ROWS)
     return (*recipe, ("pump", len(recipe) - 1))
-
-
-def check_machines(machines):
-    """Raise an error for the first of these that is not a machine with the alphabet of the first one."""
-    for machine in machines:
-        check_machine(machine)
-        if machine[0] != machines[0][0]:
-            raise InvalidOperation("the machines have different alphabets")
 
 
 def check_recipe_of(machine, recipe):

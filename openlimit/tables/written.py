@@ -2,13 +2,13 @@
 
 from openlimit.errors import InvalidNumber, InvalidOperation, InvalidWritten, TooLarge
 from openlimit.kinds import is_between
-from openlimit.machines.machines import LETTERS, MAX_STATES, check_machine, is_meter, steps_by_letter
+from openlimit.machines.machines import LETTERS, MAX_STATES, check_alphabet, check_machine, is_meter, steps_by_letter
 from openlimit.machines.needs import check_cap, is_word, start_row
 from openlimit.tables.prices import (
     costs_behind, costs_behind_word, joined_prices, no_prices, repeated_prices, word_prices,
 )
 from openlimit.tables.reading import Reading
-from openlimit.tables.recipes import MAX_ROWS, are_earlier, are_few_letters, check_alphabet, check_recipe
+from openlimit.tables.recipes import MAX_ROWS, are_earlier, are_few_letters, check_recipe
 
 MAX_TIMES = 10 ** 18
 MAX_SPELLED = 10000
@@ -201,4 +201,4 @@ def row_of_written(machine, cap, written):
     check_machine(machine)
     check_cap(cap)
     check_written_of(machine, written)
-    return Reading(machine, cap, written).read(tuple(start_row(machine)))
+    return Reading(machine, cap, written).follow(tuple(start_row(machine)))

@@ -2,9 +2,9 @@
 
 from openlimit.errors import TooLarge, Unlimited
 from openlimit.kinds import is_between
+from openlimit.machines.machines import check_machines
 from openlimit.machines.needs import MAX_CAP, check_cap, is_row
 from openlimit.tables.closures import check_most
-from openlimit.tables.recipes import check_machines
 from openlimit.verdicts.verdicts import found_verdict
 from openlimit.verdicts.walks import Rows, Walk
 

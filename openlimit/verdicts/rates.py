@@ -2,10 +2,9 @@
 
 from openlimit.errors import InvalidMachine, InvalidNumber, InvalidOperation, TooLarge
 from openlimit.kinds import is_between
-from openlimit.machines.machines import check_machine
+from openlimit.machines.machines import check_machine, check_machines
 from openlimit.machines.needs import MAX_CAP, check_cap, need
 from openlimit.tables.closures import MOST_TUPLES
-from openlimit.tables.recipes import check_machines
 from openlimit.verdicts.bounds import check_limited, found_paper, rate
 from openlimit.verdicts.verdicts import is_bounded
 

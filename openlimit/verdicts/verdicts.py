@@ -1,9 +1,9 @@
 """Verdicts: papers that show whether a machine is bounded by another one."""
 
-from openlimit.machines.machines import plain_of
+from openlimit.machines.machines import check_machines, plain_of
 from openlimit.tables.closures import check_most, closed_products, is_closed, tables_from
 from openlimit.tables.packed import DEAR, PAID, packed_of, packed_value
-from openlimit.tables.recipes import check_machines, is_recipe_of, packed_rows
+from openlimit.tables.recipes import is_recipe_of, packed_rows
 from openlimit.verdicts.walks import Rows, Walk
 
 

@@ -1,0 +1,1 @@
+"""Patterns, their machines, and rules that rewrite them."""
