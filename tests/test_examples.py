@@ -3,14 +3,16 @@
 import doctest
 import unittest
 
+from openlimit.desk import desk
 from openlimit.machines import machines, needs, operations, readers
-from openlimit.patterns import compiled, patterns
+from openlimit.patterns import compiled, patterns, rewriting
 from openlimit.tables import closures, grades, recipes, written
+from openlimit.text import formats, shell
 from openlimit.verdicts import bounds, pieces, rates, verdicts
 
 MODULES = (
     machines, needs, readers, grades, recipes, written, closures, verdicts, bounds, rates, patterns, compiled, pieces,
-    operations,
+    operations, rewriting, desk, formats, shell,
 )
 VALUES = '''
 >>> BLOCK = make_machine("ab", 1, (0, "a", 0, 1, 0), (0, "b", 1, 0, 0), finals=(0,))
@@ -118,10 +120,27 @@ PATTERNS = '''
 [0, 0, 4]
 '''
 
+DESKS = '''
+>>> [str(q) for rule, path, q in rewrites(~(a | b))]
+['(a*b*)*', '(()|((a|b)(a|b)*))', '(b|a)*']
+>>> [str(tidied(~~(Empty() | a + Empty()))), str(after(~a.upto(), ("loosen", (), False), ("unfold", (), False)))]
+['a*', '(()|(aa*))']
+>>> desk = Desk("ab")
+>>> [desk.apply(("set", "p", ~(a.upto() + b)), ("set", "q", ~a + ~b)), desk.apply(("promise", "q", "p", 1, 0)), desk.status(0)]
+[1, 2, ('never', 'bab')]
+>>> [desk.apply(("set", "q", ~(a | b))), desk.status(0), desk.undo(), str(desk), desk("p", "aabab")]
+[3, ('kept', 0), 2, 'desk of ab: 2 patterns, 1 promises', 2]
+>>> [machine_text(BLOCK), recipe_text(pump_recipe(word_recipe("a"))), edit_text(("set", "p", ~(a | b)))]
+['machine ab 1 starts 0 finals 0\\n0 a +1 0\\n0 b =0 0', 'letter a\\npump 0', 'set p (a|b)*']
+>>> shell = Shell()
+>>> shell.run_all("desk ab", "edit set p (a{n}b)*; set q (a|b)*; promise q p 2 0", "status 0", "need p aabab", "rate p q 0", "list")
+('ok', 'ok', 'kept 0', '2', 'never a', 'p = (a{n}b)*; q = (a|b)*; q p 2 0')
+'''
+
 
 class ExampleTests(unittest.TestCase):
     def test_examples(self):
-        text = VALUES + MACHINES + NEEDS + READERS + TABLES + VERDICTS + PATTERNS
+        text = VALUES + MACHINES + NEEDS + READERS + TABLES + VERDICTS + PATTERNS + DESKS
         names = {}
         for module in MODULES:
             names.update(vars(module))
@@ -129,4 +148,4 @@ class ExampleTests(unittest.TestCase):
         told = []
         results = doctest.DocTestRunner().run(test, out=told.append)
         self.assertEqual((results.failed, results.attempted), (0, len(test.examples)), "".join(told))
-        self.assertEqual(results.attempted, 48)
+        self.assertEqual(results.attempted, 56)

@@ -40,6 +40,7 @@ def bound_names(text):
     names |= {node.arg for node in nodes_of(text, ast.arg)}
     names |= {node.name for node in nodes_of(text, (ast.FunctionDef, ast.ClassDef))}
     names |= {node.asname or node.name for node in nodes_of(text, ast.alias)}
+    names |= {node.name for node in nodes_of(text, ast.ExceptHandler) if node.name}
     return names
 
 

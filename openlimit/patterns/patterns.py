@@ -94,6 +94,10 @@ class Pattern:
         """The tuple of the patterns of which it is made."""
         return self._parts
 
+    def kind(self):
+        """Return the first sign of its code: the letter, or one of the five other signs."""
+        return self._code[0]
+
     def machine_for(self, alphabet):
         """Return the machine for the alphabet, which has all letters of the pattern."""
         return coded_machine(self._code, alphabet)
@@ -106,10 +110,11 @@ class Pattern:
         """Return whether the text matches with this number."""
         if type(number) != int or number < 0:
             raise InvalidNumber(number)
-        least = self(text)
+        least = self._need_of(text)
         return least is not None and least <= number
 
-    def __call__(self, text):
+    def _need_of(self, text):
+        """Return the need of the text, or None."""
         check_text(text)
         if text.strip(self._letters) != "":
             return None
@@ -117,6 +122,9 @@ class Pattern:
             self._machine = self.machine_for(self._letters or "a")
             self._moves = steps_by_letter(self._machine)
         return need_with(self._machine, self._moves, text)
+
+    def __call__(self, text):
+        return self._need_of(text)
 
     def __add__(self, other):
         return Series(self, other)
@@ -185,6 +193,19 @@ class Upto(Pattern):
     def __init__(self, part):
         check_pattern(part)
         super().__init__(UPTO, "".join([str(part), "{n}"]), part)
+
+
+def pattern_of(kind, pieces):
+    """Return the pattern of this kind, which is no letter, that is made of these pieces."""
+    if kind == SERIES:
+        return Series(pieces[0], pieces[1])
+    if kind == EITHER:
+        return Either(pieces[0], pieces[1])
+    if kind == STAR:
+        return Star(pieces[0])
+    if kind == UPTO:
+        return Upto(pieces[0])
+    return Empty()
 
 
 def read_pattern(text, at, depth):

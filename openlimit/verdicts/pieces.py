@@ -4,11 +4,10 @@ from openlimit.errors import InvalidOperation, TooLarge
 from openlimit.kinds import is_between, ordered
 from openlimit.machines.machines import MAX_STATES, MAX_STEPS, check_machine, is_plain, plain_of, steps_by_letter
 from openlimit.machines.needs import check_word
+from openlimit.tables.closures import MOST_TUPLES
 from openlimit.verdicts.bounds import found_paper, is_bound_paper
 from openlimit.verdicts.verdicts import found_verdict, is_verdict
 from openlimit.verdicts.walks import Rows
-
-MOST_TUPLES = 300
 
 
 def check_plain_machine(machine):

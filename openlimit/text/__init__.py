@@ -1,0 +1,1 @@
+"""Texts of machines, recipes and edits, and a shell."""
