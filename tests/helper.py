@@ -200,6 +200,16 @@ def plain_work():
     return found
 
 
+def is_within(call, many, rounds=25):
+    """Return whether the call takes less than so many times the plain work, both at their best in some rounds."""
+    best, unit = seconds(call), seconds(plain_work)
+    for _ in range(rounds):
+        best, unit = min(best, seconds(call)), min(unit, seconds(plain_work))
+        if best < many * unit:
+            return True
+    return False
+
+
 def slowness():
     """Return how many times slower this machine is now than the one on which the limits of time were set, at least 1."""
     return max(1, least_seconds(plain_work, 3) / 0.004)

@@ -5,20 +5,20 @@ from openlimit.errors import Broken, InvalidNumber, InvalidOperation, NothingToU
 from openlimit.kinds import is_between
 from openlimit.machines.machines import check_alphabet
 from openlimit.tables.closures import MOST_TUPLES, check_most
-from openlimit.verdicts.bounds import found_paper
-from openlimit.verdicts.verdicts import found_verdict
+from openlimit.verdicts.verdicts import unbounded_paper
+from openlimit.verdicts.walks import Climb
 
 
 def status_of(alphabet, patterns, promise, room):
     """Return ("kept", rate), ("over", rate), or the verdict that shows that the first pattern is not bounded."""
     first, second, cap, top = promise
     machines = [patterns[name].machine_for(alphabet) for name in (first, second)]
-    paper = found_verdict(machines[0], machines[1], room)
-    if paper[0] != "closed":
+    paper = unbounded_paper(machines[0], machines[1], room)
+    if paper is not None:
         return paper
     if top is None:
         return ("kept", None)
-    number = found_paper(machines[0], machines[1], cap)[0]
+    number = Climb(machines[0], machines[1]).found_at(cap, 0)[0]
     return ("kept" if number <= top else "over", number)
 
 

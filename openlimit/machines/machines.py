@@ -211,8 +211,13 @@ def trimmed(machine):
     )
 
 
+def without_counts(machine):
+    """Return the machine, which is checked, with all restarts and costs 0."""
+    alphabet, size, starts, finals, steps = machine
+    return (alphabet, size, starts, finals, ordered([(step[0], step[1], 0, 0, step[4]) for step in steps]))
+
+
 def plain_of(machine):
     """Return the machine in which all restarts and costs are 0."""
     check_machine(machine)
-    alphabet, size, starts, finals, steps = machine
-    return (alphabet, size, starts, finals, ordered([(step[0], step[1], 0, 0, step[4]) for step in steps]))
+    return without_counts(machine)

@@ -5,8 +5,8 @@ from openlimit.kinds import is_between
 from openlimit.machines.machines import MAX_STATES, check_machine
 from openlimit.machines.needs import check_letter
 from openlimit.tables.packed import (
-    CODES, NAMES, has_table_form, is_grade, is_packed_idempotent, packed_letter, packed_of, packed_product,
-    packed_pumped, packed_value, table_from,
+    CODES, NAMES, is_grade, is_packed_idempotent, packed_form, packed_letter, packed_product, packed_pumped,
+    packed_value, table_from,
 )
 
 GRADES = ("restart", "free", "paid", "dear", "none")
@@ -40,21 +40,22 @@ def is_table(size, value):
     """Return whether the value is a table of the size."""
     if not is_between(size, 1, MAX_STATES):
         raise InvalidNumber(size)
-    return has_table_form(size, value)
+    return packed_form(size, value) is not None
 
 
-def check_table(table, size):
-    """Raise InvalidTable if this is not a table of the size."""
-    if not has_table_form(size, table):
+def packed_table(size, table):
+    """Return the packed table; InvalidTable if this is not a table of the size."""
+    packed = packed_form(size, table)
+    if packed is None:
         raise InvalidTable("this is not a table of the size")
+    return packed
 
 
-def size_of(table):
-    """Return the size of the table; InvalidTable if it is none."""
+def first_packed(table):
+    """Return the packed table; InvalidTable if this is not a table of any size."""
     if not isinstance(table, tuple) or not 1 <= len(table) <= MAX_STATES:
         raise InvalidTable("this is not a table")
-    check_table(table, len(table))
-    return len(table)
+    return packed_table(len(table), table)
 
 
 def table_of(machine, letter):
@@ -67,31 +68,25 @@ def table_of(machine, letter):
 def value_of(machine, table):
     """Return the value of the table in the machine."""
     check_machine(machine)
-    check_table(table, machine[1])
-    return NAMES[packed_value(machine, packed_of(table))]
+    return NAMES[packed_value(machine, packed_table(machine[1], table))]
 
 
 def product(table, *tables):
     """Return the product of all tables in order."""
-    size = size_of(table)
-    for other in tables:
-        check_table(other, size)
-    found = packed_of(table)
-    for other in tables:
-        found = packed_product(found, packed_of(other))
+    found = first_packed(table)
+    for other in [packed_table(len(found), further) for further in tables]:
+        found = packed_product(found, other)
     return table_from(found)
 
 
 def is_idempotent(table):
     """Return whether the product of the table with itself is itself."""
-    size_of(table)
-    return is_packed_idempotent(packed_of(table))
+    return is_packed_idempotent(first_packed(table))
 
 
 def pumped(table):
     """Return the pumped table of an idempotent table."""
-    size_of(table)
-    packed = packed_of(table)
+    packed = first_packed(table)
     if not is_packed_idempotent(packed):
         raise InvalidOperation("the table is not idempotent")
     return table_from(packed_pumped(packed))

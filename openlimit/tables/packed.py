@@ -11,6 +11,8 @@ FREE = 0x00010101
 PAID = 0x00000101
 DEAR = 0x00000001
 CODES = {"restart": 0x01010101, "free": 0x00010101, "paid": 0x00000101, "dear": 0x00000001, "none": 0}
+# The grades, the most common ones first.
+ORDER = ("none", "free", "paid", "restart", "dear")
 NAMES = {0x01010101: "restart", 0x00010101: "free", 0x00000101: "paid", 0x00000001: "dear", 0: "none"}
 
 
@@ -19,46 +21,52 @@ def is_grade(value):
     return isinstance(value, str) and value in CODES
 
 
-def has_table_form(size, value):
-    """Return whether the value is a table of the size."""
+def packed_form(size, value):
+    """Return the packed table if the value is a table of the size, or None."""
     if not isinstance(value, tuple) or len(value) != size:
-        return False
+        return None
+    found = []
     for row in value:
-        if not isinstance(row, tuple) or len(row) != size or not all([is_grade(grade) for grade in row]):
-            return False
-    return True
-
-
-def packed_of(table):
-    """Return the packed table."""
-    return tuple([sum([CODES[grade] << place for place, grade in enumerate(row)]) for row in table])
+        if not isinstance(row, tuple) or len(row) != size:
+            return None
+        bits = 0
+        for grade in row[::-1]:
+            # Looked for in a tuple, as what is no grade may be no key of a dict either.
+            if grade not in ORDER:
+                return None
+            bits = (bits << 1) | CODES[grade]
+        found.append(bits)
+    return tuple(found)
 
 
 def table_from(packed):
     """Return the table with these packed rows."""
-    places = range(len(packed))
-    return tuple([tuple([NAMES[(row >> place) & RESTART] for place in places]) for row in packed])
-
-
-def row_after(code, row):
-    """Return the sequences of the grade with this code, which is not none, and the grades of the row."""
-    if code == FREE:
-        return row
-    if code == PAID:
-        # What is free becomes paid, what is a restart stays one.
-        return (row & 0xFF00FFFF) | ((row >> 8) & 0x00FF0000)
-    if code == RESTART:
-        return (row & 0xFF) | ((row >> 8) & 0xFF) * 0x01010100
-    return row & 0xFF
+    found = []
+    for row in packed:
+        names = []
+        for _ in packed:
+            names.append(NAMES[row & RESTART])
+            row = row >> 1
+        found.append(tuple(names))
+    return tuple(found)
 
 
 def row_times(row, packed):
     """Return the row of the product to which this row of the first table leads."""
     found = 0
-    for place, behind in enumerate(packed):
-        code = (row >> place) & RESTART
-        if code:
-            found = found | row_after(code, behind)
+    for behind in packed:
+        # The sequences of the grade with this code and the grades of the row behind it.
+        code = row & RESTART
+        if code == FREE:
+            found = found | behind
+        elif code == PAID:
+            # What is free becomes paid, what is a restart stays one.
+            found = found | (behind & 0xFF00FFFF) | ((behind >> 8) & 0x00FF0000)
+        elif code == RESTART:
+            found = found | (behind & 0xFF) | ((behind >> 8) & 0xFF) * 0x01010100
+        elif code == DEAR:
+            found = found | (behind & 0xFF)
+        row = row >> 1
     return found
 
 
@@ -79,15 +87,19 @@ def packed_letter(machine, letter):
 
 def is_packed_idempotent(packed):
     """Return whether the product of the packed table with itself is itself."""
-    return packed_product(packed, packed) == packed
+    for row in packed:
+        if row_times(row, packed) != row:
+            return False
+    return True
 
 
 def packed_pumped(packed):
     """Return the pumped table of an idempotent packed table."""
-    loops = []
-    for place, row in enumerate(packed):
-        code = (row >> place) & RESTART
-        loops.append((DEAR if code == PAID else code) << place)
+    codes = [(row >> place) & RESTART for place, row in enumerate(packed)]
+    # Each entry of an idempotent table is that of some way through a loop, so only paid loops change anything.
+    if PAID not in codes:
+        return packed
+    loops = [(DEAR if code == PAID else code) << place for place, code in enumerate(codes)]
     return packed_product(packed_product(packed, loops), packed)
 
 

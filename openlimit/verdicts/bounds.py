@@ -1,18 +1,18 @@
 """Rates, and the papers that show them."""
 
-from openlimit.errors import TooLarge, Unlimited
+from openlimit.errors import Unlimited
 from openlimit.kinds import is_between
 from openlimit.machines.machines import check_machines
 from openlimit.machines.needs import MAX_CAP, check_cap, is_row
 from openlimit.tables.closures import check_most
-from openlimit.verdicts.verdicts import found_verdict
-from openlimit.verdicts.walks import Rows, Walk
+from openlimit.verdicts.verdicts import unbounded_paper
+from openlimit.verdicts.walks import Climb, Rows
 
 
 def check_limited(first, second, most):
     """Raise Unlimited with the verdict if the first machine is not bounded by the second one."""
-    paper = found_verdict(first, second, most)
-    if paper[0] != "closed":
+    paper = unbounded_paper(first, second, most)
+    if paper is not None:
         raise Unlimited(paper)
 
 
@@ -21,32 +21,29 @@ def pair_key(pair):
     return [MAX_CAP + 1 if entry is None else entry for row in pair for entry in row]
 
 
-def found_paper(first, second, cap):
-    """Return a bound paper for machines of which the first one is bounded by the second one."""
-    second_rows = Rows(second, cap)
-    word = None
-    for number in range(MAX_CAP + 1):
-        walk = Walk(first[0], Rows(first, number), second_rows)
-        refused = walk.refused_of_all()
-        if refused is None:
-            return (number, tuple(sorted(walk.row_pairs(), key=pair_key)), word)
-        # This word needs more than the number, so if the next number is enough, it needs just that.
-        word = refused
-    raise TooLarge(MAX_CAP)
+def found_paper(climb, cap, least):
+    """Return a bound paper for the cap, where the rate is at least the number `least`."""
+    number, word, walk = climb.found_at(cap, least)
+    return (number, tuple(sorted(walk.row_pairs(), key=pair_key)), word)
 
 
-def rate(first, second, cap, *, most=300):
-    """Return the rate at the cap."""
-    return bound_paper(first, second, cap, most=most)[0]
-
-
-def bound_paper(first, second, cap, *, most=300):
-    """Return a bound paper for the cap."""
+def limited_climb(first, second, cap, most):
+    """Return the search for rates, after all that must be checked ahead of it."""
     check_machines((first, second))
     check_cap(cap)
     check_most(most)
     check_limited(first, second, most)
-    return found_paper(first, second, cap)
+    return Climb(first, second)
+
+
+def rate(first, second, cap, *, most=300):
+    """Return the rate at the cap."""
+    return limited_climb(first, second, cap, most).found_at(cap, 0)[0]
+
+
+def bound_paper(first, second, cap, *, most=300):
+    """Return a bound paper for the cap."""
+    return found_paper(limited_climb(first, second, cap, most), cap, 0)
 
 
 def are_row_pairs(first, second, cap, number, value):

@@ -6,8 +6,8 @@ from openlimit.machines.machines import MAX_STATES, MAX_STEPS, check_machine, is
 from openlimit.machines.needs import check_word
 from openlimit.tables.closures import MOST_TUPLES
 from openlimit.verdicts.bounds import found_paper, is_bound_paper
-from openlimit.verdicts.verdicts import found_verdict, is_verdict
-from openlimit.verdicts.walks import Rows
+from openlimit.verdicts.verdicts import is_verdict, unbounded_paper
+from openlimit.verdicts.walks import Climb, Rows
 
 
 def check_plain_machine(machine):
@@ -97,11 +97,11 @@ def power_paper(machine):
     """Return a paper that shows how many parts are enough, or that no number is."""
     pieces = piece_machine(machine)
     plain = plain_of(pieces)
-    paper = found_verdict(pieces, plain, MOST_TUPLES)
     # Both accept the same words, so there is no never word.
-    if paper[0] == "grows":
+    paper = unbounded_paper(pieces, plain, MOST_TUPLES)
+    if paper is not None:
         return paper
-    return ("power", found_paper(pieces, plain, 0))
+    return ("power", found_paper(Climb(pieces, plain), 0, 0))
 
 
 def is_power_paper(machine, value):

@@ -7,6 +7,7 @@ from openlimit.machines.needs import MAX_CAP, check_cap, need
 from openlimit.tables.closures import MOST_TUPLES
 from openlimit.verdicts.bounds import check_limited, found_paper, rate
 from openlimit.verdicts.verdicts import is_bounded
+from openlimit.verdicts.walks import Climb
 
 # Each machine is bounded by itself; the verdict on this one is found at once.
 EMPTY = ("a", 1, (), (), ())
@@ -17,9 +18,11 @@ def rates(first, second, *, until=30):
     check_machines((first, second))
     check_cap(until)
     check_limited(first, second, MOST_TUPLES)
+    climb = Climb(first, second)
+    least = 0
     for cap in range(until + 1):
-        number, _, word = found_paper(first, second, cap)
-        yield (cap, number, word)
+        least, word, _ = climb.found_at(cap, least)
+        yield (cap, least, word)
 
 
 def are_mates(first, second):
@@ -49,6 +52,7 @@ class Exchange:
         check_limited(first, second, MOST_TUPLES)
         self._first = first
         self._second = second
+        self._climb = Climb(first, second)
         self._kept = {}
 
     @property
@@ -66,17 +70,21 @@ class Exchange:
         """The dict from all caps whose rates were kept to the rates."""
         return {cap: self._kept[cap] for cap in sorted(self._kept)}
 
+    def _least_at(self, cap):
+        """Return the greatest rate that is kept for a lower cap, or 0: the rate at the cap is not less."""
+        return max([self._kept[known] for known in self._kept if known < cap], default=0)
+
     def rate_at(self, cap):
         """Return the rate at the cap, and keep it."""
         check_cap(cap)
         if cap not in self._kept:
-            self._kept[cap] = found_paper(self._first, self._second, cap)[0]
+            self._kept[cap] = self._climb.found_at(cap, self._least_at(cap))[0]
         return self._kept[cap]
 
     def shown(self, cap):
         """Return a bound paper for the cap, and keep the rate."""
         check_cap(cap)
-        paper = found_paper(self._first, self._second, cap)
+        paper = found_paper(self._climb, cap, self._least_at(cap))
         self._kept[cap] = paper[0]
         return paper
 
@@ -88,6 +96,7 @@ class Exchange:
         found = Exchange(EMPTY, EMPTY)
         found._first = self._first
         found._second = other.second
+        found._climb = Climb(self._first, other.second)
         return found
 
     def __call__(self, word):

@@ -1,21 +1,22 @@
 """Verdicts: papers that show whether a machine is bounded by another one."""
 
-from openlimit.machines.machines import check_machines, plain_of
-from openlimit.tables.closures import check_most, closed_products, is_closed, tables_from
-from openlimit.tables.packed import DEAR, PAID, packed_of, packed_value
+from openlimit.machines.machines import check_machines, without_counts
+from openlimit.tables.closed import closed_tables
+from openlimit.tables.closures import ascending_tuples, check_most, closed_products
+from openlimit.tables.packed import DEAR, PAID, packed_value
 from openlimit.tables.recipes import is_recipe_of, packed_rows
 from openlimit.verdicts.walks import Rows, Walk
 
 
 def accepts(machine, word):
     """Return whether the machine accepts the word, which may have any length."""
-    rows = Rows(plain_of(machine), 0)
+    rows = Rows(without_counts(machine), 0)
     return rows.is_accepted(rows.behind_word(word))
 
 
 def first_never(first, second):
     """Return the first word that the second machine accepts and the first one does not, or None."""
-    return Walk(first[0], Rows(plain_of(first), 0), Rows(plain_of(second), 0)).first_refused()
+    return Walk(first[0], Rows(without_counts(first), 0), Rows(without_counts(second), 0)).first_refused()
 
 
 def is_finite(code):
@@ -49,31 +50,45 @@ def shortened(rows):
     return tuple(found)
 
 
-def found_verdict(first, second, most):
-    """Return a verdict on two machines that were checked."""
+def found_growth(first, second, products):
+    """Return a verdict that shows growth, found in the closure of both machines, or None."""
+    tables, others = products.tables()
+    are_dear = [packed_value(first, packed) == DEAR for packed in tables]
+    are_finite = [is_finite(packed_value(second, packed)) for packed in others]
+    for place, entry in enumerate(products.entries()):
+        if are_dear[entry[0]] and are_finite[entry[1]]:
+            return ("grows", shortened(products.rows()[:place + 1]))
+    return None
+
+
+def found_limits(first, second, most):
+    """Return a pair for two machines that were checked: a verdict that the first one is not bounded by the second one,
+    or None; and the closure of both machines, if it was needed."""
     word = first_never(first, second)
     if word is not None:
-        return ("never", word)
+        return (("never", word), None)
     products = closed_products((first, second), most)
-    entries = products.entries()
-    for place, entry in enumerate(entries):
-        if shows_growth(first, second, entry):
-            return ("grows", shortened(products.rows()[:place + 1]))
-    return ("closed", tuple(sorted([tables_from(entry) for entry in entries])))
+    return (found_growth(first, second, products), products)
+
+
+def unbounded_paper(first, second, most):
+    """Return a verdict that the first machine is not bounded by the second one, or None if it is."""
+    return found_limits(first, second, most)[0]
 
 
 def verdict(first, second, *, most=300):
     """Return a verdict, the first never word if there is one."""
     check_machines((first, second))
     check_most(most)
-    return found_verdict(first, second, most)
+    paper, products = found_limits(first, second, most)
+    return ("closed", ascending_tuples(products)) if paper is None else paper
 
 
 def is_bounded(first, second, *, most=300):
     """Return whether the first machine is bounded by the second one."""
     check_machines((first, second))
     check_most(most)
-    return found_verdict(first, second, most)[0] == "closed"
+    return unbounded_paper(first, second, most) is None
 
 
 def never_word(first, second):
@@ -101,11 +116,9 @@ def is_growing(first, second, value):
 
 def is_kept_closed(first, second, value):
     """Return whether the value is a closed tuple of pairs of tables that shows boundedness."""
-    if not is_closed(value, first, second):
+    entries = closed_tables((first, second), value)
+    if entries is None or any([is_forbidden(first, second, entry) for entry in entries]):
         return False
-    for entry in value:
-        if is_forbidden(first, second, [packed_of(table) for table in entry]):
-            return False
     return accepts(first, "") or not accepts(second, "")
 
 
