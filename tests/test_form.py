@@ -109,6 +109,56 @@ class FormTests(unittest.TestCase):
         for name in generators:
             self.assertEqual(names.count(name), 1, name)
 
+    def test_no_circles_of_imports(self):
+        names = {".".join(path.relative_to(ROOT.parent).with_suffix("").parts): text for path, text in sources().items()}
+        needed = {name: {node.module for node in nodes_of(text, ast.ImportFrom)} for name, text in names.items()}
+        left = dict(needed)
+        while left:
+            free = [name for name in left if not needed[name] & set(left)]
+            self.assertNotEqual(free, [], sorted(left))
+            for name in free:
+                del left[name]
+
+    def test_names_come_from_where_they_are_defined(self):
+        defined = {}
+        for path, text in sources().items():
+            name = ".".join(path.relative_to(ROOT.parent).with_suffix("").parts)
+            top = ast.parse(text).body
+            defined[name] = {node.name for node in top if isinstance(node, (ast.FunctionDef, ast.ClassDef))}
+            defined[name] |= {node.targets[0].id for node in top if isinstance(node, ast.Assign)}
+        for path, text in sources().items():
+            for node in nodes_of(text, ast.ImportFrom):
+                for alias in node.names:
+                    self.assertIn(alias.name, defined[node.module], path)
+                    self.assertEqual(text.count(alias.name) > 1, True, (path, alias.name))
+
+    def test_tables_are_only_read(self):
+        kept = set()
+        for text in sources().values():
+            for node in ast.parse(text).body:
+                if isinstance(node, ast.Assign) and isinstance(node.value, (ast.Dict, ast.List)):
+                    kept.add(node.targets[0].id)
+        for path, text in sources().items():
+            parents = {child: node for node in ast.walk(ast.parse(text)) for child in ast.iter_child_nodes(node)}
+            for node, parent in parents.items():
+                if isinstance(node, ast.Name) and node.id in kept and isinstance(node.ctx, ast.Load):
+                    is_read = isinstance(parent, ast.Subscript) and parent.value is node
+                    is_asked = isinstance(parent, ast.Compare) and parent.comparators[-1] is node
+                    self.assertTrue(is_read or is_asked, (path, node.id, node.lineno))
+
+    def test_class_methods_and_properties_have_names_of_their_own(self):
+        plain, own = set(), set()
+        for text in sources().values():
+            for node in nodes_of(text, ast.ClassDef):
+                for part in node.body:
+                    if isinstance(part, ast.FunctionDef):
+                        (own if part.decorator_list else plain).add(part.name)
+        self.assertEqual(plain & own, set())
+        for text in sources().values():
+            for node in nodes_of(text, ast.Attribute):
+                if isinstance(node.ctx, ast.Store):
+                    self.assertNotIn(node.attr, own)
+
     def test_methods_of_builtin_values(self):
         own = set()
         for text in sources().values():

@@ -25,21 +25,24 @@ def closed_products(machines, most):
     return products
 
 
+def ranked(column):
+    """Return the ascending list of the tables of these packed ones, and for each of them its place there."""
+    tables = [table_from(packed) for packed in column]
+    ascending = sorted(tables)
+    places = {table: place for place, table in enumerate(ascending)}
+    return (ascending, [places[table] for table in tables])
+
+
 def ascending_tuples(products):
     """Return the ascending tuple of the tuples of tables."""
-    found = []
-    ranks = []
-    for tables in products.tables():
-        named = [table_from(packed) for packed in tables]
-        # Tables are compared once, then their places among one another.
-        order = sorted(range(len(named)), key=lambda number: named[number])
-        found.append([named[number] for number in order])
-        places = [0] * len(order)
-        for place, number in enumerate(order):
-            places[number] = place
-        ranks.append(places)
-    entries = sorted([tuple([places[number] for places, number in zip(ranks, entry)]) for entry in products.entries()])
-    return tuple([tuple([tables[place] for tables, place in zip(found, entry)]) for entry in entries])
+    # Tables are compared once, then their places among one another.
+    columns = [ranked(column) for column in products.tables()]
+    entries = []
+    for entry in products.entries():
+        entries.append(tuple([places[number] for (_, places), number in zip(columns, entry)]))
+    return tuple([
+        tuple([tables[place] for (tables, _), place in zip(columns, entry)]) for entry in sorted(entries)
+    ])
 
 
 def closure(first, *others, most=300):

@@ -44,7 +44,8 @@ class Tables:
         if number not in self._places:
             self._places[number] = len(self._factors)
             self._factors.append((self._found[number], {}, []))
-            for packed in self._found[:self._done]:
+            before = self._found[:self._done]
+            for packed in before:
                 self._multiply(packed, self._factors[-1:])
         while self._done < len(self._found):
             self._multiply(self._found[self._done], self._factors)

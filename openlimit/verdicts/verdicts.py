@@ -62,8 +62,10 @@ def found_growth(first, second, products):
 
 
 def found_limits(first, second, most):
-    """Return a pair for two machines that were checked: a verdict that the first one is not bounded by the second one,
-    or None; and the closure of both machines, if it was needed."""
+    """Return for two checked machines a verdict that shows that the first one is not bounded, or None, and the closure.
+
+    The closure is None where a never word was found.
+    """
     word = first_never(first, second)
     if word is not None:
         return (("never", word), None)
