@@ -91,6 +91,7 @@ class PatternTests(unittest.TestCase):
         self.assertEqual([Empty().places, len(Empty()), Empty().is_open, A.places], [0, 1, False, 1])
         self.assertEqual(str(B + (A | B) + A), "((b(a|b))a)")
         self.assertEqual((C + A + B + A).letters, "abc")
+        self.assertEqual([(Letter("z") + A).letters, (Letter("z") + A).places, Letter("z")("z")], ["az", 2, 0])
         self.assertEqual((C + A + B + A).places, 4)
 
     def test_kinds(self):
@@ -209,6 +210,12 @@ class BoundTests(unittest.TestCase):
         self.check_raises(TooLarge, 10, lambda: ~ten)
         self.check_raises(TooLarge, 10, ten.upto)
         self.assertEqual(len(levels(A, 8) + levels(B, 8)), 19)
+        nested = A
+        for _ in range(9):
+            nested = Series(nested, Empty())
+        self.assertEqual(str(Pattern.read(str(nested))), "(" * 9 + "a" + "())" * 9)
+        self.check_raises(TooLarge, 10, lambda: nested + Empty())
+        self.assertRaises(ParseError, Pattern.read, f"({nested}())")
         self.assertRaises(ParseError, Pattern.read, str(ten) + "*")
 
     def test_letters(self):

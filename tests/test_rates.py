@@ -88,6 +88,40 @@ class RatesTests(unittest.TestCase):
         self.assertEqual(len(list(rates(THRICE, TOTAL, until=10))), 11)
 
 
+class DetourTests(unittest.TestCase):
+    """Words lead to more pairs of rows for the numbers below the rate than for the rate itself."""
+
+    def setUp(self):
+        # States 0 to 5 turn with each d; behind state 7, which costs three, all of them are reached.
+        steps = [(i, letter, 0, 0, (i + (letter == "d")) % 6) for i in range(6) for letter in "abcd"]
+        steps += [(7, letter, 1, 0, i) for i in range(6) for letter in "abcd"]
+        for letter in "abcd":
+            steps += [(7, letter, 1, 3, 7), (6, letter, 0, 0, 0), (6, letter, 0, 3, 7)]
+        self.first = make_machine("abcd", 8, *steps, starts=(6,), finals=(0, 6, 7))
+        loops = [*COUNTER[4], *[(7, letter, 0, 0, 7) for letter in "abc"]]
+        self.seconds = [
+            make_machine("abcd", 8, *loops, starts=starts, finals=tuple(range(8)))
+            for starts in ((0, 1, 6, 7), (0, 1, 6))
+        ]
+
+    def test_rates(self):
+        some = rates(self.first, self.seconds[0])
+        self.assertEqual([next(some) for _ in range(27)], [(cap, 3, "ad") for cap in range(27)])
+        with self.assertRaises(errors.TooLarge) as caught:
+            next(some)
+        self.assertEqual(caught.exception.limit, 2000)
+        self.assertEqual(list(rates(self.first, self.seconds[1])), [(cap, 3, "ad") for cap in range(31)])
+
+    def test_exchange(self):
+        exchange = Exchange(self.first, self.seconds[0])
+        self.assertEqual([exchange.rate_at(2), exchange.rate_at(26), exchange.shown(25)[0]], [3, 3, 3])
+        for call in (exchange.rate_at, exchange.shown):
+            with self.assertRaises(errors.TooLarge) as caught:
+                call(27)
+            self.assertEqual(caught.exception.limit, 2000)
+        self.assertEqual(exchange.known, {2: 3, 25: 3, 26: 3})
+
+
 class MatesTests(unittest.TestCase):
     def test_mates(self):
         self.assertEqual([are_mates(BLOCK, TOTAL), are_mates(TOTAL, BLOCK), are_mates(LESS, LESS)], [False, False, True])

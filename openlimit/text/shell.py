@@ -178,16 +178,14 @@ class Shell:
     def run(self, line):
         """Run the command, and return its result."""
         words = words_of(line)
-        if words[0] in NEW:
-            check_part(is_alphabet(words[1]))
-            self._desk = StrictDesk(words[1]) if words[0] == "strict" else Desk(words[1])
-            found = "ok"
-        elif self._desk is None:
+        if self._desk is None and words[0] not in NEW:
             raise InvalidCommand("there is no desk")
+        alphabet = "" if self._desk is None else self._desk.alphabet
+        parts = [part_of(kind, part, alphabet) for kind, part in zip(PARTS[words[0]], words[1:])]
+        if words[0] in NEW:
+            self._desk = StrictDesk(parts[0]) if words[0] == "strict" else Desk(parts[0])
+            found = "ok"
         else:
-            parts = []
-            for kind, part in zip(PARTS[words[0]], words[1:]):
-                parts.append(part_of(kind, part, self._desk.alphabet))
             action = ACTIONS[words[0]]
             found = action(self._desk, *parts)
         self._lines.append(line)
