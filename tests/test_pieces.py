@@ -188,7 +188,7 @@ class PaperTests(unittest.TestCase):
         self.assertEqual(len(more), len(pairs) + 1)
         self.assertTrue(is_power_paper(ALL, ("power", (number, more, "a"))))
         # With the cap 0 no row of the plain machine has an entry above 0.
-        above = tuple(sorted([*pairs, ((None, 1), (None, 1))], key=lambda pair: [31 if x is None else x for x in sum(pair, ())]))
+        above = tuple(sorted([*pairs, ((1, None), (1, None))], key=lambda pair: [31 if x is None else x for x in sum(pair, ())]))
         self.assertEqual(len(set(above)), len(pairs) + 1)
         self.assertFalse(is_power_paper(ALL, ("power", (number, above, "a"))))
         self.assertFalse(is_power_paper(ALL, ("power", (number, more[::-1], "a"))))

@@ -37,12 +37,13 @@ def ascending_tuples(products):
     """Return the ascending tuple of the tuples of tables."""
     # Tables are compared once, then their places among one another.
     columns = [ranked(column) for column in products.tables()]
-    entries = []
+    ranks = []
     for entry in products.entries():
-        entries.append(tuple([places[number] for (_, places), number in zip(columns, entry)]))
-    return tuple([
-        tuple([tables[place] for (tables, _), place in zip(columns, entry)]) for entry in sorted(entries)
-    ])
+        ranks.append(tuple([places[number] for (_, places), number in zip(columns, entry)]))
+    found = []
+    for rank in sorted(ranks):
+        found.append(tuple([tables[place] for (tables, _), place in zip(columns, rank)]))
+    return tuple(found)
 
 
 def closure(first, *others, most=300):
