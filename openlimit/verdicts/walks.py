@@ -24,12 +24,14 @@ class Rows:
 
     def number_of(self, row):
         """Return the number of the row, perhaps a new one."""
-        if row not in self._numbers:
-            self._numbers[row] = len(self._found)
+        number = self._numbers.get(row)
+        if number is None:
+            number = len(self._found)
+            self._numbers[row] = number
             self._found.append(row)
             self.ends.append(final_in(self._machine, row) is not None)
             self._further.append(None)
-        return self._numbers[row]
+        return number
 
     def row_at(self, number):
         """Return the row with this number."""
@@ -41,11 +43,14 @@ class Rows:
 
     def behind(self, number):
         """Return the list of the numbers of the rows behind each letter, in the order of the alphabet."""
-        if self._further[number] is None:
+        found = self._further[number]
+        if found is None:
             row = self._found[number]
-            rows = [tuple(row_after(self._moves, self._cap, row, letter)) for letter in self._machine[0]]
-            self._further[number] = [self.number_of(after) for after in rows]
-        return self._further[number]
+            found = []
+            for letter in self._machine[0]:
+                found.append(self.number_of(tuple(row_after(self._moves, self._cap, row, letter))))
+            self._further[number] = found
+        return found
 
     def behind_word(self, word):
         """Return the number of the row of the word, which may have any length."""
@@ -90,14 +95,17 @@ class Walk:
         """Return the first word with a refused pair, or None; TooLarge if too many other pairs are ahead."""
         if self.is_refused((0, 0)):
             return ""
+        ones, others = self._first.ends, self._second.ends
         place = 0
         while place < len(self._pairs):
             many = len(self._pairs)
             self._go_on(place)
             for late in range(many, len(self._pairs)):
-                if self.is_refused(self._pairs[late]):
+                other, one = self._pairs[late]
+                if others[other] and not ones[one]:
                     return self._word_to(late)
-                self._check_many(late + 1)
+                if late == MAX_PAIRS:
+                    raise TooLarge(MAX_PAIRS)
             place += 1
         return None
 
@@ -106,7 +114,8 @@ class Walk:
         place = 0
         while place < len(self._pairs):
             self._go_on(place)
-            self._check_many(len(self._pairs))
+            if len(self._pairs) > MAX_PAIRS:
+                raise TooLarge(MAX_PAIRS)
             place += 1
         for place, pair in enumerate(self._pairs):
             if self.is_refused(pair):
@@ -116,11 +125,6 @@ class Walk:
     def row_pairs(self):
         """Return the list of the pairs of rows themselves."""
         return [(self._second.row_at(other), self._first.row_at(one)) for other, one in self._pairs]
-
-    def _check_many(self, many):
-        """Raise TooLarge if these are too many pairs."""
-        if many > MAX_PAIRS:
-            raise TooLarge(MAX_PAIRS)
 
     def _go_on(self, place):
         """Add the pairs behind the one at this place that are new."""
