@@ -305,7 +305,7 @@ class NeedTests(unittest.TestCase):
 
     def test_calls_are_fast(self):
         pattern = ~(A.upto() + B) + A.upto()
-        limit = 0.06 * slowness()
+        limit = 0.15 * slowness()
         self.assertLess(least_seconds(lambda: [pattern("aabaaab") for _ in range(2000)]), limit)
         self.assertLess(least_seconds(lambda: [~(A.upto() + B) for _ in range(2000)]), limit)
 

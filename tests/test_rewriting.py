@@ -274,7 +274,7 @@ class OrderTests(unittest.TestCase):
 
     def test_calls_are_fast(self):
         p = ~((A | B).upto() + B)
-        limit = 0.1 * slowness()
+        limit = 0.25 * slowness()
         self.assertLess(least_seconds(lambda: [list(rewrites(p)) for _ in range(200)]), limit)
         self.assertLess(least_seconds(lambda: [tidied(p) for _ in range(500)]), limit)
 
