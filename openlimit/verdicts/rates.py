@@ -5,8 +5,8 @@ from openlimit.kinds import is_between
 from openlimit.machines.machines import check_machine, check_machines
 from openlimit.machines.needs import MAX_CAP, check_cap, need
 from openlimit.tables.closures import MOST_TUPLES
-from openlimit.verdicts.bounds import check_limited, found_paper, rate
-from openlimit.verdicts.verdicts import is_bounded
+from openlimit.verdicts.bounds import check_limited, found_paper
+from openlimit.verdicts.verdicts import are_both_bounded
 from openlimit.verdicts.walks import Climb
 
 # Each machine is bounded by itself; the verdict on this one is found at once.
@@ -27,7 +27,8 @@ def rates(first, second, *, until=30):
 
 def are_mates(first, second):
     """Return whether each of the machines is bounded by the other one."""
-    return is_bounded(first, second) and is_bounded(second, first)
+    check_machines((first, second))
+    return are_both_bounded(first, second, MOST_TUPLES)
 
 
 def chained(cap, *machines):
@@ -37,10 +38,13 @@ def chained(cap, *machines):
         raise InvalidMachine("a chain has at least two machines")
     for machine in machines:
         check_machine(machine)
-    check_machines(machines)
+    if any([machine[0] != machines[0][0] for machine in machines]):
+        raise InvalidOperation("the machines have different alphabets")
     numbers = [cap]
     for place in reversed(range(len(machines) - 1)):
-        numbers.append(rate(machines[place], machines[place + 1], numbers[-1]))
+        first, second = machines[place:place + 2]
+        check_limited(first, second, MOST_TUPLES)
+        numbers.append(Climb(first, second).found_at(numbers[-1], 0)[0])
     return tuple(numbers[::-1])
 
 

@@ -50,14 +50,14 @@ def shortened(rows):
     return tuple(found)
 
 
-def found_growth(first, second, products):
-    """Return a verdict that shows growth, found in the closure of both machines, or None."""
-    tables, others = products.tables()
-    are_dear = [packed_value(first, packed) == DEAR for packed in tables]
-    are_finite = [is_finite(packed_value(second, packed)) for packed in others]
+def growth_place(machines, products, one, other):
+    """Return the place of the first pair of tables that is dear in machine one and finite in the other, or None."""
+    tables = products.tables()
+    are_dear = [packed_value(machines[one], packed) == DEAR for packed in tables[one]]
+    are_finite = [is_finite(packed_value(machines[other], packed)) for packed in tables[other]]
     for place, entry in enumerate(products.entries()):
-        if are_dear[entry[0]] and are_finite[entry[1]]:
-            return ("grows", shortened(products.rows()[:place + 1]))
+        if are_dear[entry[one]] and are_finite[entry[other]]:
+            return place
     return None
 
 
@@ -70,7 +70,19 @@ def found_limits(first, second, most):
     if word is not None:
         return (("never", word), None)
     products = closed_products((first, second), most)
-    return (found_growth(first, second, products), products)
+    place = growth_place((first, second), products, 0, 1)
+    if place is None:
+        return (None, products)
+    return (("grows", shortened(products.rows()[:place + 1])), products)
+
+
+def are_both_bounded(first, second, most):
+    """Return whether each one of two checked machines is bounded by the other one."""
+    paper, products = found_limits(first, second, most)
+    if paper is not None or first_never(second, first) is not None:
+        return False
+    # The closure is the same, with the tables of each pair exchanged.
+    return growth_place((first, second), products, 1, 0) is None
 
 
 def unbounded_paper(first, second, most):
