@@ -120,6 +120,7 @@ def state_dropped(alphabet, state, parts):
     return (patterns, promises[:index] + promises[index + 1:])
 
 
+# All of them are called with the alphabet, the state, and the parts of the edit behind its word.
 ACTIONS = {
     "set": state_set,
     "remove": state_removed,
