@@ -99,8 +99,8 @@ def packed_pumped(packed):
     # Each entry of an idempotent table is that of some way through a loop, so only paid loops change anything.
     if PAID not in codes:
         return packed
-    loops = [(DEAR if code == PAID else code) << place for place, code in enumerate(codes)]
-    return packed_product(packed_product(packed, loops), packed)
+    behind = [row_times(DEAR if code == PAID else code, (row,)) for code, row in zip(codes, packed)]
+    return packed_product(packed, behind)
 
 
 def packed_value(machine, packed):
